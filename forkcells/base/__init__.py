@@ -1,0 +1,1 @@
+"""Integers, names, terms and frames."""

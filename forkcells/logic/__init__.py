@@ -1,0 +1,1 @@
+"""Claims: what they are, and what is made of them."""

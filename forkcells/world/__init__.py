@@ -1,0 +1,1 @@
+"""Situations, and what is true in them."""

@@ -1,0 +1,205 @@
+"""[0.1] to [0.6], and that the interface stands where the document lists it."""
+
+import copy
+import importlib
+import inspect
+import unittest
+
+from forkcells.base.frames import Frame, is_name
+from forkcells.errors import InvalidFrame, InvalidNumber, InvalidTerm, TooMany
+from forkcells.logic.claims import carried, is_claim, renamed_claim, replaced, used_at
+from forkcells.solve.differences import fitting, is_fitting, is_ring, ring, tightest
+from forkcells.solve.questions import Question
+from forkcells.solve.trees import Closing, facts_at, is_tree
+from forkcells.world.situations import Situation
+from samples import (BROKEN, CHAIN, FRAME, LONGER, Maker, NEXT, SHOWN, SIXTY, UPTO, WIDE, odd_values,
+                     raised)
+
+FUNCTIONS = {
+    "forkcells.base.frames": {"is_name": "value"},
+    "forkcells.logic.claims": {
+        "is_claim": "frame, value", "names_of": "frame, claim", "replaced": "frame, claim, terms",
+        "carried": "frame, claim, target, arrays, terms", "used_at": "frame, claim, terms",
+        "inside_claim": "frame, array, term", "all_between": "frame, low, high, op, one, other",
+        "renamed_claim": "frame, claim, names"},
+    "forkcells.solve.differences": {
+        "fitting": "differences", "is_fitting": "differences, value", "ring": "differences",
+        "is_ring": "differences, value", "tightest": "differences, one, other", "differences_of": "frame, claim"},
+    "forkcells.solve.trees": {"is_tree": "question, value", "facts_at": "question, tree, node"},
+}
+
+CLASSES = {
+    ("forkcells.base.frames", "Frame"): {
+        "__init__": "arrays, positions, values", "length_of": "array", "kind_of": "word", "is_fresh": "value",
+        "is_position_term": "value, *, own=()", "is_value_term": "value, *, own=()", "shifted": "term, shift",
+        "with_names": "*, arrays=(), positions=(), values=()", "renamed": "names", "__contains__": "value",
+        "__len__": "", "__eq__": "other", "__str__": ""},
+    ("forkcells.world.situations", "Situation"): {
+        "__init__": "frame, rows, positions, values", "cell": "array, position", "position_at": "term",
+        "value_at": "term", "holds": "claim", "failure": "claim", "with_cell": "array, position, content",
+        "with_number": "word, content", "for_frame": "frame", "__len__": "", "__eq__": "other", "__str__": ""},
+    ("forkcells.solve.questions", "Question"): {
+        "__init__": "frame, given, wanted", "is_broken_by": "value", "new_numbers": "situation", "laid": "situation",
+        "small": "situation", "with_given": "claim", "without_given": "place", "wanting": "claim", "__len__": "",
+        "__eq__": "other", "__str__": ""},
+    ("forkcells.solve.trees", "Closing"): {
+        "__init__": "question", "part": "fact, place", "cases": "fact", "new": "fact, names", "use": "fact, terms",
+        "apart": "one, other", "same": "array, fact", "outside": "array, fact", "ring": "steps", "undo": "*, many=1",
+        "twin": "", "__bool__": "", "__len__": "", "__eq__": "other", "__str__": ""},
+}
+
+PROPERTIES = {
+    ("forkcells.base.frames", "Frame"): ("arrays", "positions", "amounts", "lengths"),
+    ("forkcells.world.situations", "Situation"): ("frame", "rows", "positions", "amounts", "lengths"),
+    ("forkcells.solve.questions", "Question"): ("frame", "claims", "goal", "members", "fresh", "few", "facts"),
+    ("forkcells.solve.trees", "Closing"): ("facts", "open_nodes", "tree"),
+}
+
+
+def words(call, first):
+    """The parameters of a function, in one text."""
+    told = [str(one) for one in inspect.signature(call).parameters.values()]
+    given = inspect.signature(call).parameters.values()
+    if any([one.kind == one.KEYWORD_ONLY for one in given]):
+        place = [one.kind == one.KEYWORD_ONLY for one in given].index(True)
+        told.insert(place, "*")
+    return ", ".join(told[first:])
+
+
+class Interface(unittest.TestCase):
+    def test_functions(self):
+        for module, functions in FUNCTIONS.items():
+            for name, parameters in functions.items():
+                call = getattr(importlib.import_module(module), name)
+                self.assertEqual(call.__module__, module)
+                self.assertEqual(words(call, 0), parameters, name)
+
+    def test_classes(self):
+        for (module, name), methods in CLASSES.items():
+            made = getattr(importlib.import_module(module), name)
+            self.assertEqual(made.__module__, module)
+            for method, parameters in methods.items():
+                self.assertIn(method, vars(made))
+                self.assertEqual(words(vars(made)[method], 1), parameters, (name, method))
+
+    def test_properties(self):
+        for (module, name), properties in PROPERTIES.items():
+            made = getattr(importlib.import_module(module), name)
+            for word in properties:
+                self.assertIsInstance(vars(made)[word], property)
+
+
+class Judging(unittest.TestCase):
+    def test_every_value_is_accepted(self):
+        calls = [is_name, FRAME.is_fresh, FRAME.is_position_term, FRAME.is_value_term, BROKEN.is_broken_by,
+                 lambda value: is_claim(FRAME, value), lambda value: is_fitting(CHAIN, value),
+                 lambda value: is_ring(CHAIN, value), lambda value: is_tree(NEXT, value),
+                 lambda value: FRAME.is_position_term(value, own=("k", "m")),
+                 lambda value: FRAME.is_value_term(value, own=("k",)), lambda value: value in FRAME,
+                 lambda value: FRAME == value, lambda value: SHOWN == value, lambda value: NEXT == value]
+        deep = [("not", value) for value in odd_values()] + [(value,) * 3 for value in odd_values()]
+        deep += [("and", (value, value)) for value in odd_values()] + [{"a": value} for value in odd_values()]
+        for call in calls:
+            for value in odd_values() + deep:
+                self.assertIn(call(value), (True, False))
+                self.assertIsInstance(call(value), bool)
+
+    def test_true_is_not_one(self):
+        self.assertFalse(FRAME.is_position_term(("i", True)))
+        self.assertFalse(is_claim(FRAME, ("pos", "<", ("i", True), ("j", 0))))
+        self.assertFalse(is_claim(FRAME, ("val", "<", ("a", "i", False, 0), ("x", 0))))
+        self.assertFalse(is_fitting((("i", "", 1),), {"": 0, "i": True}))
+        self.assertTrue(is_fitting((("i", "", 1),), {"": 0, "i": 1}))
+
+
+class Integers(unittest.TestCase):
+    def test_sixty_digits(self):
+        for number, expected in ((SIXTY, True), (-SIXTY, True), (LONGER, False), (-LONGER, False)):
+            self.assertIs(FRAME.is_position_term(("i", number)), expected)
+            self.assertIs(is_claim(FRAME, ("val", "<", ("a", "i", number, 0), ("x", 0))), expected)
+            self.assertIs(raised(Situation, FRAME, {"a": (number,)}, {"i": 0, "j": 0}, {"x": 0}) is None, expected)
+            self.assertIs(raised(fitting, (("i", "j", number),)) is None, expected)
+            self.assertIs(raised(SHOWN.cell, "a", number) is None, expected)
+            self.assertIs(raised(Closing(BROKEN).apart, ("i", number), ("i", 0)) is None, expected)
+
+    def test_returned_ones_can_be_longer(self):
+        made = Situation(FRAME, {"a": (SIXTY,)}, {"i": SIXTY, "j": 0}, {"x": 0})
+        self.assertEqual(made.position_at(("i", SIXTY)), 2 * SIXTY)
+        self.assertEqual(tightest((("i", "j", SIXTY), ("j", "n", SIXTY)), "i", "n"), 2 * SIXTY)
+
+
+class Unchanged(unittest.TestCase):
+    def test_arguments_stay(self):
+        rows, positions, values = {"a": (1, 2)}, {"j": 1, "i": 2}, {"x": 3}
+        names, terms = {"i": "k", "j": "i"}, {"i": ("p", 1), "j": ("", 0), "x": ("b", "p", 0, 2)}
+        arrays, put, value = {"a": "b"}, {"i": ("j", 1)}, {"": 0, "j": 2, "i": 4}
+        passed = (rows, positions, values, names, terms, arrays, put, value)
+        before = copy.deepcopy(passed)
+        orders = [list(table) for table in passed]
+        Situation(FRAME, rows, positions, values)
+        FRAME.renamed(names)
+        renamed_claim(FRAME, UPTO, names)
+        replaced(FRAME, UPTO, put)
+        carried(FRAME, UPTO, Frame((("b", "n"),), ("p",), ()), arrays, terms)
+        is_fitting(CHAIN, value)
+        self.assertEqual(passed, before)
+        self.assertEqual([list(table) for table in passed], orders)
+
+    def test_objects_stay(self):
+        texts = [str(value) for value in (FRAME, SHOWN, NEXT, BROKEN)]
+        BROKEN.small(SHOWN), BROKEN.laid(SHOWN), BROKEN.new_numbers(SHOWN), BROKEN.with_given(UPTO)
+        SHOWN.with_cell("a", 0, 9), FRAME.with_names(positions=("z",)), facts_at(
+            Question(FRAME, (), ("and", ())), (("cases", 1, ()),), 0)
+        self.assertEqual([str(value) for value in (FRAME, SHOWN, NEXT, BROKEN)], texts)
+        self.assertEqual(SHOWN.rows, {"a": (4, 0, 7)})
+
+    def test_returned_dicts_are_not_shared(self):
+        made = fitting(CHAIN)
+        made.clear()
+        self.assertTrue(is_fitting(CHAIN, fitting(CHAIN)))
+        laid = BROKEN.laid(SHOWN)
+        laid.rows.clear(), laid.positions.clear()
+        self.assertEqual(str(laid), "a=4 4 7 | i=2 j=2 | x=5")
+
+    def test_equal_calls_return_equal_results(self):
+        maker, other = Maker(WIDE, 71), Maker(WIDE, 71)
+        for _ in range(30):
+            one = Question(WIDE, (maker.claim(),), maker.claim())
+            two = Question(WIDE, (other.claim(),), other.claim())
+            situation, same = maker.situation(), other.situation()
+            self.assertEqual([one.members, one.few, one.new_numbers(situation), str(one.laid(situation))],
+                             [two.members, two.few, two.new_numbers(same), str(two.laid(same))])
+            if one.is_broken_by(situation):
+                self.assertTrue(one.small(situation) == two.small(same))
+        self.assertEqual([fitting(CHAIN), ring(CHAIN + (("i", "j", 1),))], [fitting(CHAIN), ring(CHAIN + (("i", "j", 1),))])
+
+
+class FirstErrors(unittest.TestCase):
+    def test_several_wrong_arguments(self):
+        self.assertRaises(InvalidFrame, carried, 1, 2, 3, 4, 5)
+        self.assertRaises(InvalidFrame, Question, None, None, None)
+        self.assertRaises(InvalidTerm, FRAME.shifted, None, None)
+        self.assertRaises(InvalidNumber, FRAME.shifted, ("i", SIXTY), None)
+        self.assertRaises(InvalidTerm, FRAME.shifted, ("i", SIXTY), SIXTY)
+
+    def test_errors_behind_then_come_last(self):
+        whole = Question(FRAME, (("and", ()),) * 40, ("and", ()))
+        self.assertEqual(type(raised(whole.with_given, None)).__name__, "InvalidClaim")
+        self.assertEqual(type(raised(whole.with_given, UPTO)).__name__, "InvalidOperation")
+        self.assertEqual(type(raised(NEXT.small, None)).__name__, "InvalidSituation")
+        self.assertEqual(type(raised(NEXT.small, SHOWN)).__name__, "InvalidOperation")
+        broken = (("i", "i", -1),)
+        self.assertEqual(type(raised(tightest, broken, "i", None)).__name__, "InvalidTerm")
+        self.assertEqual(type(raised(tightest, broken, "i", "i")).__name__, "InvalidOperation")
+        self.assertEqual(type(raised(used_at, FRAME, None, None)).__name__, "InvalidClaim")
+        self.assertEqual(type(raised(SHOWN.failure, None)).__name__, "InvalidClaim")
+        self.assertEqual(type(raised(SHOWN.failure, ("and", ()))).__name__, "InvalidOperation")
+
+    def test_many_given_claims_and_members_are_no_error(self):
+        self.assertIsNone(raised(Question, FRAME, (("not", UPTO),) * 40, UPTO))
+        far = ("pos", "<", ("i", SIXTY), ("j", 0))
+        self.assertNotIsInstance(raised(Question, FRAME, (far,), UPTO), TooMany)
+
+
+if __name__ == "__main__":
+    unittest.main()

@@ -1,0 +1,207 @@
+"""The files of the package keep to the language that the project asks for, as far as is seen here."""
+
+import ast
+import builtins
+import os
+import re
+import unittest
+
+TOP = os.path.join(os.path.dirname(os.path.dirname(os.path.abspath(__file__))), "forkcells")
+DOUBLE = ("__init__", "__eq__", "__repr__", "__str__", "__len__", "__bool__", "__contains__", "__call__",
+          "__iter__", "__getitem__")
+LIBRARY = ("heapq", "math", "itertools", "collections")
+WORDS = ("typing", "typing_extensions", "enum", "Enum", "IntEnum", "StrEnum", "Flag", "IntFlag", "Generic",
+         "Protocol", "ABC", "ABCMeta", "namedtuple", "NamedTuple", "TypedDict", "abstractmethod", "dataclass",
+         "overload", "contextmanager", "_wall", "_WallAttr", "metaclass")
+BARRED = ("register", "mro", "elements", "open", "input", "law", "version_info", "with_traceback", "add_note",
+          "_cold", "_tuplegetter", "_outside", "_record", "_written_out", "_member_names")
+METHODS = ("append clear copy count endswith extend find get index insert isalnum isalpha isdigit islower isspace "
+           "isupper items join keys ljust lower lstrip partition pop remove replace reverse rfind rjust rpartition "
+           "rsplit rstrip setdefault split splitlines startswith strip update upper values zfill bit_length add "
+           "discard").split()
+
+
+def files():
+    for folder, _, names in sorted(os.walk(TOP)):
+        for name in sorted(names):
+            if not name.endswith(".pyc"):
+                yield os.path.join(folder, name)
+
+
+def read(path):
+    with open(path, encoding="utf-8") as file:
+        return file.read()
+
+
+def trees():
+    for path in files():
+        yield path, ast.parse(read(path))
+
+
+def bound_names(tree):
+    """Names of functions, classes, parameters and variables."""
+    for node in ast.walk(tree):
+        if isinstance(node, ast.arg):
+            yield node.arg
+        elif isinstance(node, ast.Name) and isinstance(node.ctx, ast.Store):
+            yield node.id
+        elif isinstance(node, (ast.FunctionDef, ast.ClassDef)):
+            yield node.name
+
+
+class Language(unittest.TestCase):
+    def test_files(self):
+        for path in files():
+            self.assertRegex(os.path.basename(path), r"^[a-z0-9_]+\.py$")
+            self.assertTrue(os.path.exists(os.path.join(os.path.dirname(path), "__init__.py")), path)
+            self.assertFalse(os.path.exists(path[:-3]), path)
+        self.assertLessEqual(len(list(files())), 100)
+
+    def test_characters_and_sizes(self):
+        for path in files():
+            text = read(path)
+            self.assertRegex(text, r"\A[ -~\n]*\Z", path)
+            lines = text.split("\n")
+            self.assertLessEqual(len(lines), 399, path)
+            self.assertLessEqual(max([len(line) for line in lines]), 120, path)
+
+    def test_functions_have_at_most_forty_lines(self):
+        for path, tree in trees():
+            for node in ast.walk(tree):
+                if isinstance(node, ast.FunctionDef):
+                    self.assertLessEqual(node.end_lineno - node.lineno + 1, 40, (path, node.name))
+
+    def test_imports(self):
+        for path, tree in trees():
+            for node in ast.walk(tree):
+                self.assertNotIsInstance(node, ast.Import, path)
+                if isinstance(node, ast.ImportFrom):
+                    self.assertIn(node, tree.body)
+                    self.assertEqual(node.level, 0)
+                    if node.module in LIBRARY:
+                        continue
+                    self.assertTrue(node.module.startswith("forkcells."), path)
+                    other = ast.parse(read(os.path.join(os.path.dirname(TOP), *node.module.split(".")) + ".py"))
+                    defined = set()
+                    for part in other.body:
+                        if isinstance(part, (ast.FunctionDef, ast.ClassDef)):
+                            defined.add(part.name)
+                        elif isinstance(part, ast.Assign):
+                            defined.add(part.targets[0].id)
+                    for name in node.names:
+                        self.assertIsNone(name.asname)
+                        self.assertIn(name.name, defined, path)
+
+    def test_imports_are_used(self):
+        for path, tree in trees():
+            used = {node.id for node in ast.walk(tree) if isinstance(node, ast.Name)}
+            for node in tree.body:
+                if isinstance(node, ast.ImportFrom):
+                    self.assertEqual([name.name for name in node.names if name.name not in used], [], path)
+
+    def test_no_circles_of_imports(self):
+        leads = {}
+        for path, tree in trees():
+            name = os.path.relpath(path, os.path.dirname(TOP))[:-3].replace(os.sep, ".")
+            leads[name] = [node.module for node in tree.body if isinstance(node, ast.ImportFrom)]
+
+        def visit(name, way):
+            self.assertNotIn(name, way)
+            for other in leads.get(name, []):
+                visit(other, way + [name])
+        for name in leads:
+            visit(name, [])
+
+    def test_module_level(self):
+        allowed = (ast.ImportFrom, ast.FunctionDef, ast.ClassDef, ast.Assign)
+        for path, tree in trees():
+            for k, node in enumerate(tree.body):
+                docstring = k == 0 and isinstance(node, ast.Expr) and isinstance(node.value, ast.Constant)
+                self.assertTrue(docstring or isinstance(node, allowed), (path, node.lineno))
+
+    def test_nothing_barred_stands_there(self):
+        barred = (ast.AsyncFunctionDef, ast.Global, ast.Await, ast.Div, ast.MatMult, ast.GeneratorExp)
+        for path, tree in trees():
+            for node in ast.walk(tree):
+                self.assertNotIsInstance(node, barred, path)
+                if isinstance(node, ast.Constant):
+                    self.assertNotIsInstance(node.value, (float, complex), path)
+
+    def test_decorators(self):
+        for path, tree in trees():
+            for node in ast.walk(tree):
+                if isinstance(node, ast.ClassDef):
+                    self.assertEqual(node.decorator_list, [], path)
+                if isinstance(node, ast.FunctionDef):
+                    names = [part.id for part in node.decorator_list if isinstance(part, ast.Name)]
+                    self.assertEqual(len(names), len(node.decorator_list))
+                    self.assertTrue(set(names) <= {"property"}, path)
+
+    def test_properties_and_methods_have_different_names(self):
+        properties, methods = set(), set()
+        for _, tree in trees():
+            for node in ast.walk(tree):
+                if isinstance(node, ast.ClassDef):
+                    for part in node.body:
+                        if isinstance(part, ast.FunctionDef):
+                            (properties if part.decorator_list else methods).add(part.name)
+        self.assertEqual(properties & methods, set())
+
+    def test_sets_stand_in_sorted_and_len(self):
+        for path, tree in trees():
+            inside = set()
+            for node in ast.walk(tree):
+                if isinstance(node, ast.Call) and isinstance(node.func, ast.Name) and node.func.id in ("sorted", "len"):
+                    inside.update([id(part) for part in node.args])
+            for node in ast.walk(tree):
+                called = isinstance(node, ast.Call) and isinstance(node.func, ast.Name) and node.func.id == "set"
+                if called or isinstance(node, (ast.Set, ast.SetComp)):
+                    self.assertIn(id(node), inside, (path, node.lineno))
+
+    def test_names(self):
+        for path, tree in trees():
+            imported = {name.name for node in tree.body if isinstance(node, ast.ImportFrom) for name in node.names}
+            for name in bound_names(tree):
+                self.assertNotIn(name, BARRED, path)
+                self.assertNotIn(name, imported, path)
+                self.assertTrue(not name.startswith("__") or name in DOUBLE, (path, name))
+                self.assertTrue(name in DOUBLE or not hasattr(builtins, name), (path, name))
+                if name not in DOUBLE:
+                    self.assertRegex(name, r"^(_?[A-Za-z][A-Za-z0-9_]*|_)$", path)
+            for node in ast.walk(tree):
+                if isinstance(node, ast.Attribute):
+                    self.assertNotIn(node.attr, BARRED, path)
+
+    def test_methods_of_builtin_values(self):
+        own = set()
+        for _, tree in trees():
+            for node in ast.walk(tree):
+                if isinstance(node, ast.ClassDef):
+                    own.update([part.name for part in node.body if isinstance(part, ast.FunctionDef)])
+        for path, tree in trees():
+            for node in ast.walk(tree):
+                if isinstance(node, ast.Call) and isinstance(node.func, ast.Attribute):
+                    self.assertTrue(node.func.attr in own or node.func.attr in METHODS, (path, node.lineno))
+
+    def test_words(self):
+        for path in files():
+            text = read(path)
+            for word in WORDS:
+                self.assertIsNone(re.search(r"\b%s\b" % re.escape(word), text), (path, word))
+            self.assertIsNone(re.search(r"\btype\b", text), path)
+
+    def test_percent_stands_in_no_string(self):
+        for path, tree in trees():
+            for node in ast.walk(tree):
+                if isinstance(node, ast.Constant) and isinstance(node.value, str):
+                    self.assertNotIn("%", node.value, path)
+
+    def test_classes_have_no_base_but_errors(self):
+        for path, tree in trees():
+            for node in tree.body:
+                if isinstance(node, ast.ClassDef) and not path.endswith("errors.py"):
+                    self.assertEqual(node.bases, [], path)
+
+
+if __name__ == "__main__":
+    unittest.main()
