@@ -180,6 +180,10 @@ class Alls(Checks):
         self.bad(("all", ("k",), INSIDE), ("all", ("k",), INSIDE, LOW, LOW), ("all", ("k",)), ("all",),
                  ["all", ("k",), INSIDE, LOW])
 
+    def test_other_words(self):
+        for word in ("any", "in", "", "alls", "ALL", "k", "guard"):
+            self.bad((word, ("k",), INSIDE, LOW), ("not", (word, ("k",), TRUE, TRUE)))
+
     def test_no_all_stands_in_an_all(self):
         inner = ("all", ("m",), ("in", "m", ("", 0), ("i", 0)), ("val", "<=", ("a", "m", 0, 0), ("x", 0)))
         self.good(inner)
@@ -210,6 +214,15 @@ class Depth(Checks):
             guard = ("or", (guard, INSIDE))
         self.good(all_of(guard, LOW))
         self.bad(all_of(("or", (guard,)), LOW), all_of(("and", (guard,)), LOW))
+
+    def test_bodies_of_and_and_or(self):
+        for word in ("and", "or"):
+            body = LOW
+            for _ in range(10):
+                body = (word, (LOW, body))
+            self.good(all_of(INSIDE, body))
+            self.bad(all_of(INSIDE, (word, (body, LOW))), all_of(INSIDE, (word, (LOW, body))),
+                     all_of(INSIDE, ("not", body)), ("not", all_of(INSIDE, body)))
 
     def test_much_deeper(self):
         self.bad(nots(19), nots(300))

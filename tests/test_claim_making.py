@@ -184,6 +184,10 @@ class Carried(unittest.TestCase):
                  {"i": ("p", 1), "j": ("", 0), "q": ("", 0)}, {"i": ("p", 1), "j": ("", 0), "a": ("", 0)}]
         for terms in wrong + odd_values():
             self.assertRaises(InvalidOperation, carried, FRAME, UPTO, TARGET, {"a": "b"}, terms)
+            self.assertRaises(InvalidOperation, carried, FRAME, TRUE, TARGET, {"a": "b"}, terms)
+        for word in ("i", "j", "x"):
+            less = {name: good[name] for name in good if name != word}
+            self.assertRaises(InvalidOperation, carried, FRAME, TRUE, TARGET, {"a": "b"}, less)
 
     def test_result_is_no_claim(self):
         claim = position_atom(("i", SIXTY), ("j", 0))
@@ -299,7 +303,8 @@ class AllBetween(unittest.TestCase):
                 ("all", ("k",), ("in", "k", ("j", -1), ("n", 2)), ("val", op, ("", 3), ("a", "i", 4, 5))))
 
     def test_first_fresh_name(self):
-        for words, own in ((("k",), "kk"), (("kk",), "k"), (("k", "kk"), "kkk"), (("k", "kkk"), "kk")):
+        seven = tuple(["k" * many for many in range(1, 8)])
+        for words, own in ((("k",), "kk"), (("kk",), "k"), (("k", "kk"), "kkk"), (("k", "kkk"), "kk"), (seven, "k" * 8)):
             frame = Frame((("a", "n"),), words, ())
             cell = ("a", own, 0, 1)
             self.assertEqual(all_between(frame, ("", 0), ("n", 0), "<", cell, cell),

@@ -153,15 +153,15 @@ class Asking(unittest.TestCase):
         self.assertEqual([len(Frame((), (), ())), len(WIDE)], [0, 9])
 
     def test_equality(self):
-        self.assertTrue(FRAME == Frame((("a", "n"),), ("i", "j"), ("x",)))
-        self.assertFalse(FRAME != Frame((("a", "n"),), ("i", "j"), ("x",)))
+        self.assertIs(FRAME == Frame((("a", "n"),), ("i", "j"), ("x",)), True)
+        self.assertIs(FRAME != Frame((("a", "n"),), ("i", "j"), ("x",)), False)
         others = [Frame((("b", "n"),), ("i", "j"), ("x",)), Frame((("a", "m"),), ("i", "j"), ("x",)),
                   Frame((("a", "n"),), ("j", "i"), ("x",)), Frame((("a", "n"),), ("i", "j"), ("y",)),
                   Frame((("a", "n"),), ("i",), ("x",)), Frame((), ("i", "j"), ("x",)),
                   Frame((("a", "n"),), ("i", "j"), ())]
         for other in others:
-            self.assertFalse(FRAME == other)
-            self.assertTrue(FRAME != other)
+            self.assertIs(FRAME == other, False)
+            self.assertIs(FRAME != other, True)
         self.assertFalse(Frame((("a", "n"), ("b", "n")), (), ()) ==
                          Frame((("b", "n"), ("a", "n")), (), ()))
         for value in odd_values():

@@ -81,12 +81,12 @@ class Making(unittest.TestCase):
     def test_len_str_and_equality(self):
         self.assertEqual([len(NEXT), len(BROKEN), len(Question(FRAME, (), TRUE))], [2, 1, 0])
         self.assertEqual(str(Question(FRAME, (), TRUE)), "question of 0 given, 3 members, few 9")
-        self.assertTrue(NEXT == Question(FRAME, NEXT.claims, NEXT.goal))
-        self.assertFalse(NEXT != Question(FRAME, NEXT.claims, NEXT.goal))
+        self.assertIs(NEXT == Question(FRAME, NEXT.claims, NEXT.goal), True)
+        self.assertIs(NEXT != Question(FRAME, NEXT.claims, NEXT.goal), False)
         for other in (BROKEN, Question(FRAME, NEXT.claims[::-1], NEXT.goal), Question(FRAME, NEXT.claims, TRUE),
                       Question(TURNED, NEXT.claims, NEXT.goal)):
-            self.assertFalse(NEXT == other)
-            self.assertTrue(NEXT != other)
+            self.assertIs(NEXT == other, False)
+            self.assertIs(NEXT != other, True)
         for value in odd_values() + [NEXT.facts]:
             if not isinstance(value, Question):
                 self.assertIs(NEXT == value, False)

@@ -332,7 +332,7 @@ class Others(unittest.TestCase):
         self.assertTrue(MORE.for_frame(WIDE) == MORE)
         turned = Frame((("c", "m"), ("b", "n"), ("a", "n")), ("j", "i"), ("y", "x"))
         self.assertEqual(str(MORE.for_frame(turned)), "c=- b=3 4 a=1 2 | j=-7 i=1 | y=-5 x=5")
-        self.assertFalse(MORE.for_frame(turned) == MORE)
+        self.assertIs(MORE.for_frame(turned) == MORE, False)
 
     def test_for_frame_errors(self):
         for frame in (Frame((), ("p",), ()), Frame((), ("x",), ()), Frame((), (), ("i",)), Frame((), (), ("v",)),
@@ -346,14 +346,14 @@ class Others(unittest.TestCase):
 
     def test_equality(self):
         same = Situation(FRAME, {"a": (4, 0, 7)}, {"i": 2, "j": 2}, {"x": 5})
-        self.assertTrue(SHOWN == same)
-        self.assertFalse(SHOWN != same)
+        self.assertIs(SHOWN == same, True)
+        self.assertIs(SHOWN != same, False)
         turned = Frame((("a", "n"),), ("j", "i"), ("x",))
         for other in (SHOWN.with_cell("a", 1, 1), SHOWN.with_number("i", 3), SHOWN.with_number("j", 3),
                       SHOWN.with_number("x", 4), SHOWN.for_frame(turned),
                       Situation(FRAME, {"a": (4, 0)}, {"i": 2, "j": 2}, {"x": 5})):
-            self.assertFalse(SHOWN == other)
-            self.assertTrue(SHOWN != other)
+            self.assertIs(SHOWN == other, False)
+            self.assertIs(SHOWN != other, True)
         self.assertTrue(SHOWN.with_cell("a", 1, 1).with_cell("a", 1, 0) == SHOWN)
         for value in odd_values() + [str(SHOWN), SHOWN.rows]:
             if not isinstance(value, Situation):

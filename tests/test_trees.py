@@ -333,6 +333,11 @@ class Trees(unittest.TestCase):
         self.check(False, (("cases", 1, (0, 1)), self.end), (("cases", 1, (1, 2)), ("cases", 1, (0, 3)), self.end, self.end),
                    (("cases", 1, (1, 3)), self.end, self.end, ("cases", 1, (2, 4)), self.end),
                    (("apart", ("i", 0), ("j", 0), (0, 1, 2)), self.end, self.end))
+        question, ring = asked(("and", (MORE,)), LESS), ("ring", ((4, 0), (2, 0)))
+        self.assertIs(is_tree(question, (("part", 1, 0, 1), ("part", 1, 0, 2), ring)), True)
+        self.assertIs(is_tree(question, (("part", 1, 0, 2), ("part", 1, 0, 1), ring)), False)
+        self.check(False, (("cases", 1, (1, 2)), self.end, self.end, ("part", 2, 0, 3)), (("cases", 1, (1, 3)), self.end, (
+            "cases", 1, (2, 4)), self.end, self.end))
         self.check(True, (("cases", 1, (4, 1)), ("cases", 1, (3, 2)), self.end, self.end, self.end))
 
     def test_wrong_numbers(self):
@@ -553,6 +558,17 @@ class Steps(unittest.TestCase):
         self.assertEqual(closing.new(1, ("q",)), 0)
         closing.apart(Q, Q)
 
+    def test_several_names_are_free_again(self):
+        for back in (1, 2, 3):
+            closing = Closing(asked(("not", ("all", ("k", "m"), TRUE, TRUE)), ("not", UPTO)))
+            closing.new(1, ("p", "q")), closing.new(2, ("r",)), closing.apart(Q, ("r", 0))
+            closing.undo(many=back)
+            for name, known in (("p", back < 3), ("q", back < 3), ("r", back < 2)):
+                self.assertIs(raised(closing.apart, (name, 0), ("i", 0)) is None, known)
+                if known:
+                    closing.undo()
+                    self.assertRaises(InvalidOperation, closing.new, 2, (name,))
+
     def test_undo_errors(self):
         closing, _ = next_closing(5)
         for many in (-1, True, False, None, "1", LONGER, (1,), [], FRAME, 10 ** 99):
@@ -573,38 +589,38 @@ class Steps(unittest.TestCase):
         for many in range(14):
             closing, _ = next_closing(many)
             twin = closing.twin()
-            self.assertTrue(twin == closing)
+            self.assertIs(twin == closing, True)
             self.assertEqual((twin.open_nodes, len(twin), str(twin)), (closing.open_nodes, len(closing), str(closing)))
             if many > 0:
                 twin.undo()
                 self.assertEqual((len(closing), len(twin)), (many, many - 1))
-                self.assertFalse(twin == closing)
+                self.assertIs(twin == closing, False)
                 self.assertTrue(closing == next_closing(many)[0])
-                self.assertTrue(twin == next_closing(many - 1)[0])
+                self.assertIs(twin == next_closing(many - 1)[0], True)
                 closing.undo(many=many)
-                self.assertTrue(twin == next_closing(many - 1)[0])
+                self.assertIs(twin == next_closing(many - 1)[0], True)
                 self.assertEqual(twin.facts, next_closing(many - 1)[0].facts)
         closing, _ = next_closing(4)
         twin = closing.twin()
         twin.use(1, (Q,)), closing.use(1, (("i", 0),))
-        self.assertFalse(twin == closing)
+        self.assertIs(twin == closing, False)
         twin.cases(9), closing.undo()
         self.assertEqual((len(twin), len(closing), len(closing.facts), len(twin.facts)), (6, 4, 9, 11))
 
     def test_equality(self):
         one, other = Closing(NEXT), Closing(Question(FRAME, NEXT.claims, NEXT.goal))
-        self.assertTrue(one == other)
-        self.assertFalse(one != other)
-        self.assertFalse(one == Closing(BROKEN))
+        self.assertIs(one == other, True)
+        self.assertIs(one != other, False)
+        self.assertIs(one == Closing(BROKEN), False)
         one.new(3, ("q",))
-        self.assertFalse(one == other)
+        self.assertIs(one == other, False)
         other.new(3, ("r",))
-        self.assertFalse(one == other)
+        self.assertIs(one == other, False)
         other.undo()
         other.new(3, ("q",))
-        self.assertTrue(one == other)
+        self.assertIs(one == other, True)
         one.part(4, 0), other.part(4, 1)
-        self.assertTrue(one != other)
+        self.assertIs(one != other, True)
         for value in odd_values() + [NEXT_TREE, str(one)]:
             self.assertIs(one == value, False)
             self.assertIs(one != value, True)

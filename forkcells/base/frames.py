@@ -205,4 +205,4 @@ def is_renaming(kinds, names):
     for word in names:
         if kind_among(kinds, word) is None or not is_name(names[word]):
             return False
-    return len(set([names.get(word, word) for word in kinds])) == len(kinds)
+    return len({names.get(word, word) for word in kinds}) == len(kinds)

@@ -106,7 +106,7 @@ def require_claim(frame, claim):
 
 def required_result(frame, claim):
     """The made claim; an error if it is none, as numbers or the depth went too far."""
-    if claim is None or not is_claim(frame, claim):
+    if not is_claim(frame, claim):
         raise InvalidOperation("what is made is no claim")
     return claim
 

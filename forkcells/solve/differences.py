@@ -1,8 +1,8 @@
 """Differences of points, what fits them, and rings."""
 
-from forkcells.base.frames import Frame, is_name
+from forkcells.base.frames import is_name
 from forkcells.base.integers import is_any_integer, is_index, is_passed_integer
-from forkcells.errors import InvalidClaim, InvalidFrame, InvalidOperation, InvalidTerm
+from forkcells.errors import InvalidClaim, InvalidOperation, InvalidTerm
 from forkcells.logic.claims import is_claim
 from forkcells.solve.graph import (found_ring, least_bound, makes_ring, numbers_that_fit,
                                    points_of)
@@ -68,8 +68,6 @@ def tightest(differences, one, other):
 
 def differences_of(frame, claim):
     """What an atom, or a not of one, says, as a tuple of differences."""
-    if not isinstance(frame, Frame):
-        raise InvalidFrame("this is no frame")
     if not is_claim(frame, claim):
         raise InvalidClaim("this is no claim for the frame")
     said = differences_said(claim)

@@ -77,4 +77,4 @@ def makes_ring(chosen):
         if chosen[k - 1][1] != chosen[k][0]:
             return False
         total = total + chosen[k][2]
-    return len(chosen) > 0 and total < 0
+    return total < 0

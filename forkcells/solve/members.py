@@ -30,7 +30,7 @@ def members_of(frame, given, wanted, fresh):
         if positive:
             members = members + bare_terms(frame, compared_terms(claim[2]))
     members = members + [(word, 0) for word in fresh]
-    return tuple(sorted({term for term in members}))
+    return tuple(sorted(set(members)))
 
 
 def compared_terms(guard):

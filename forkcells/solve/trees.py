@@ -15,7 +15,6 @@ def is_tree(question, value):
 
 def facts_at(question, tree, node):
     """The tuple of the facts known at a node of a tree."""
-    require_question(question)
     if not is_tree(question, tree):
         raise InvalidOperation("this is no tree of the question")
     if not is_index(node, len(tree)):
@@ -153,7 +152,7 @@ def steps_of(value):
     It is None if a node has no form, or if some node but node 0 is not named by just one node
     that has a lower number, or node 0 is named.
     """
-    if not isinstance(value, tuple) or len(value) == 0:
+    if not isinstance(value, tuple):
         return None
     pairs = []
     named = {0: True}

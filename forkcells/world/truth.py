@@ -87,7 +87,7 @@ def places_to_look(rows, numbers, claim):
     marks = [-1] + [len(rows[array]) for array in rows]
     marks = marks + [position_of(numbers, term) for term in bare_terms_of(claim)]
     starts = marks + [mark + 1 for mark in marks]
-    for array in sorted({array for array in arrays_at_own(claim)}):
+    for array in sorted(set(arrays_at_own(claim))):
         starts = starts + changes_in(rows[array])
     least, greatest = min(marks), max(marks)
     return sorted({place for place in starts if least <= place <= greatest})
