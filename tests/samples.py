@@ -3,6 +3,7 @@
 import random
 
 from forkcells.base.frames import Frame
+from forkcells.decide.follows import Asker
 from forkcells.errors import ParseError, TooMany
 from forkcells.logic.claims import replaced
 from forkcells.solve.questions import Question
@@ -48,7 +49,7 @@ def odd_values():
         nested(40, lambda value: (value,)), nested(40, lambda value: [value]),
         nested(40, lambda value: {"a": value}), nested(19, lambda value: ("not", value)),
         nested(19, lambda value: ("and", (value,))), FRAME, SHOWN, NEXT, Closing(NEXT),
-        ParseError(3), TooMany(16),
+        ParseError(3), TooMany(16), Asker(FRAME),
     ]
 
 

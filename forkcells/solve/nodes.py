@@ -79,31 +79,39 @@ def is_not_of(fact, word):
 
 def added_by_part(fact, index):
     """A part of what is true as a whole."""
-    parts = ()
-    if fact[0] == "and":
-        parts = fact[1]
-    elif is_not_of(fact, "or"):
-        parts = nots_of(fact[1][1])
-    elif is_not_of(fact, "not"):
-        parts = (fact[1][1],)
+    parts = whole_parts(fact)
     if not is_index(index, len(parts)):
         return None
     return [((parts[index],), ())]
 
 
+def whole_parts(fact):
+    """The parts of a fact that are true together; none if it is no such fact."""
+    if fact[0] == "and":
+        return fact[1]
+    if is_not_of(fact, "or"):
+        return nots_of(fact[1][1])
+    return (fact[1][1],) if is_not_of(fact, "not") else ()
+
+
 def added_by_cases(fact):
     """One of the parts, each in a case of its own."""
-    parts = None
-    if fact[0] == "or":
-        parts = fact[1]
-    elif is_not_of(fact, "and"):
-        parts = nots_of(fact[1][1])
-    elif fact[0] == "not" and fact[1][1:2] == ("==",):
-        kind, _, one, other = fact[1]
-        parts = ((kind, "<", one, other), (kind, "<", other, one))
+    parts = case_parts(fact)
     if parts is None:
         return None
     return [((part,), ()) for part in parts]
+
+
+def case_parts(fact):
+    """The parts of a fact of which one is true, or None if it is no such fact."""
+    if fact[0] == "or":
+        return fact[1]
+    if is_not_of(fact, "and"):
+        return nots_of(fact[1][1])
+    if fact[0] == "not" and fact[1][1:2] == ("==",):
+        kind, _, one, other = fact[1]
+        return ((kind, "<", one, other), (kind, "<", other, one))
+    return None
 
 
 def nots_of(claims):

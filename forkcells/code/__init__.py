@@ -1,0 +1,1 @@
+"""Rights, functions and programs."""

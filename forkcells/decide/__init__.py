@@ -1,0 +1,1 @@
+"""Which questions follow, and papers that show it."""
