@@ -6,12 +6,21 @@ import inspect
 import unittest
 
 from forkcells.base.frames import Frame, is_name
+from forkcells.code.functions import Function
+from forkcells.code.programs import Program
+from forkcells.code.rights import is_within
+from forkcells.decide.follows import Asker, breaking, follows, is_paper, paper
 from forkcells.errors import InvalidFrame, InvalidNumber, InvalidTerm, TooMany
 from forkcells.logic.claims import carried, is_claim, renamed_claim, replaced, used_at
+from forkcells.order.races import first_race, is_race
+from forkcells.order.schedules import ends, is_parting, is_schedule, parting, schedules
+from forkcells.runs.outcomes import first_break, outcome
+from forkcells.runs.runs import Run
 from forkcells.solve.differences import fitting, is_fitting, is_ring, ring, tightest
 from forkcells.solve.questions import Question
 from forkcells.solve.trees import Closing, facts_at, is_tree
 from forkcells.world.situations import Situation
+from code_samples import BOTH, COPY, NOUGHTS, ONECELL, ONES, PAIR, SET
 from samples import (BROKEN, CHAIN, FRAME, LONGER, Maker, NEXT, SHOWN, SIXTY, UPTO, WIDE, odd_values,
                      raised)
 
@@ -26,6 +35,30 @@ FUNCTIONS = {
         "fitting": "differences", "is_fitting": "differences, value", "ring": "differences",
         "is_ring": "differences, value", "tightest": "differences, one, other", "differences_of": "frame, claim"},
     "forkcells.solve.trees": {"is_tree": "question, value", "facts_at": "question, tree, node"},
+    "forkcells.decide.follows": {
+        "follows": "question", "breaking": "question", "paper": "question", "is_paper": "question, value"},
+    "forkcells.code.rights": {
+        "is_within": "right, other", "do_meet": "right, other", "within_claim": "one, other", "apart_claim": "one, other",
+        "usable_claim": "frame, array, right, term", "in_right": "own, right", "outside_right": "own, right"},
+    "forkcells.runs.outcomes": {
+        "outcome": "program, called, situation, *, most=100, viewing=False, careless=False",
+        "first_break": "program, called, situation, *, most=100"},
+    "forkcells.order.schedules": {
+        "is_schedule": "program, called, situation, value, *, whole=False",
+        "run_along": "program, called, situation, schedule", "schedules": "program, called, situation",
+        "moments": "program, called, situation", "ends": "program, called, situation",
+        "parting": "program, called, situation", "is_parting": "program, called, situation, value"},
+    "forkcells.order.races": {
+        "races_at": "run", "clashes": "program, called, situation, schedule",
+        "late_clashes": "program, called, situation, schedule", "is_free": "program, called, situation",
+        "first_race": "program, called, situation", "is_race": "program, called, situation, value"},
+}
+
+CONSTANTS = {
+    "forkcells.code.functions": {
+        "MAX_ROWS": 24, "MAX_LOOPS": 4, "MAX_INSIDE": 4, "MAX_CLAIMS": 4, "MAX_BRANCHES": 3},
+    "forkcells.code.programs": {"MAX_FUNCTIONS": 6},
+    "forkcells.order.schedules": {"MAX_STEPS": 12, "MAX_MOMENTS": 2000},
 }
 
 CLASSES = {
@@ -46,6 +79,23 @@ CLASSES = {
         "__init__": "question", "part": "fact, place", "cases": "fact", "new": "fact, names", "use": "fact, terms",
         "apart": "one, other", "same": "array, fact", "outside": "array, fact", "ring": "steps", "undo": "*, many=1",
         "twin": "", "__bool__": "", "__len__": "", "__eq__": "other", "__str__": ""},
+    ("forkcells.decide.follows", "Asker"): {
+        "__init__": "frame", "tell": "claim", "ask": "claim", "why": "claim", "undo": "*, many=1", "twin": "",
+        "__len__": "", "__contains__": "value", "__eq__": "other", "__str__": ""},
+    ("forkcells.code.functions", "Function"): {
+        "__init__": "called, *, arrays=(), positions=(), values=(), places=(), numbers=(), rows=(), notes=(), before=(), "
+                    "after=()",
+        "row": "number", "loop_of": "number", "way_of": "array", "right_of": "array", "with_rows": "rows, notes",
+        "with_notes": "loop, claims", "with_contract": "before, after", "called_as": "called", "relabeled": "names",
+        "__len__": "", "__iter__": "", "__eq__": "other", "__str__": ""},
+    ("forkcells.code.programs", "Program"): {
+        "__init__": "functions", "callers": "called", "needed": "called", "with_function": "function",
+        "without": "called", "renamed": "names", "right_of_argument": "called, row, branch, index",
+        "__getitem__": "called", "__contains__": "value", "__len__": "", "__iter__": "", "__eq__": "other", "__str__": ""},
+    ("forkcells.runs.runs", "Run"): {
+        "__init__": "program, called, situation, *, viewing=False, careless=False", "is_over": "", "is_done": "",
+        "go": "path", "go_on": "*, most=100", "row_at": "path", "sight": "path", "right_at": "path, array",
+        "touches": "path", "undo": "*, many=1", "twin": "", "__len__": "", "__eq__": "other", "__str__": ""},
 }
 
 PROPERTIES = {
@@ -53,6 +103,13 @@ PROPERTIES = {
     ("forkcells.world.situations", "Situation"): ("frame", "rows", "positions", "amounts", "lengths"),
     ("forkcells.solve.questions", "Question"): ("frame", "claims", "goal", "members", "fresh", "few", "facts"),
     ("forkcells.solve.trees", "Closing"): ("facts", "open_nodes", "tree"),
+    ("forkcells.decide.follows", "Asker"): ("known",),
+    ("forkcells.code.functions", "Function"): (
+        "called", "arrays", "positions", "amounts", "places", "numbers", "rows", "notes", "before", "after", "frame",
+        "start_frame", "end_frame", "conditions", "callees"),
+    ("forkcells.code.programs", "Program"): ("functions", "names"),
+    ("forkcells.runs.runs", "Run"): (
+        "program", "active", "waiting", "stuck", "schedule", "trail", "places", "end"),
 }
 
 
@@ -82,6 +139,11 @@ class Interface(unittest.TestCase):
                 self.assertIn(method, vars(made))
                 self.assertEqual(words(vars(made)[method], 1), parameters, (name, method))
 
+    def test_constants(self):
+        for module, constants in CONSTANTS.items():
+            for name, number in constants.items():
+                self.assertEqual(getattr(importlib.import_module(module), name), number)
+
     def test_properties(self):
         for (module, name), properties in PROPERTIES.items():
             made = getattr(importlib.import_module(module), name)
@@ -96,7 +158,15 @@ class Judging(unittest.TestCase):
                  lambda value: is_ring(CHAIN, value), lambda value: is_tree(NEXT, value),
                  lambda value: FRAME.is_position_term(value, own=("k", "m")),
                  lambda value: FRAME.is_value_term(value, own=("k",)), lambda value: value in FRAME,
-                 lambda value: FRAME == value, lambda value: SHOWN == value, lambda value: NEXT == value]
+                 lambda value: FRAME == value, lambda value: SHOWN == value, lambda value: NEXT == value,
+                 lambda value: is_paper(NEXT, value), lambda value: is_paper(BROKEN, ("follows", value)),
+                 lambda value: value in Asker(FRAME), lambda value: Asker(FRAME) == value,
+                 lambda value: PAIR == value, lambda value: BOTH == value, lambda value: value in BOTH,
+                 lambda value: Run(BOTH, "pair", ONES) == value,
+                 lambda value: is_schedule(BOTH, "pair", ONES, value), lambda value: is_race(BOTH, "pair", ONES, value),
+                 lambda value: is_parting(BOTH, "pair", ONES, value),
+                 lambda value: is_parting(BOTH, "pair", ONES, (value, ())),
+                 lambda value: is_race(BOTH, "pair", ONES, (value, (), value))]
         deep = [("not", value) for value in odd_values()] + [(value,) * 3 for value in odd_values()]
         deep += [("and", (value, value)) for value in odd_values()] + [{"a": value} for value in odd_values()]
         for call in calls:
@@ -145,6 +215,21 @@ class Unchanged(unittest.TestCase):
         self.assertEqual(passed, before)
         self.assertEqual([list(table) for table in passed], orders)
 
+    def test_arguments_of_later_parts_stay(self):
+        names, calls = {"a": "z"}, {"set": "put"}
+        passed = (names, calls)
+        before = copy.deepcopy(passed)
+        texts = [str(value) for value in (NEXT, SHOWN, PAIR, COPY, BOTH, ONECELL, ONES, NOUGHTS)]
+        rows = (PAIR.rows, COPY.rows, COPY.notes, COPY.after)
+        PAIR.relabeled(names), BOTH.renamed(calls), BOTH.right_of_argument("pair", 0, 1, 0), BOTH.needed("pair")
+        paper(NEXT), breaking(BROKEN), follows(NEXT), is_paper(NEXT, paper(NEXT))
+        outcome(BOTH, "pair", ONES), first_break(BOTH, "pair", ONES), Run(BOTH, "pair", ONES).go_on()
+        ends(ONECELL, "two", NOUGHTS), parting(ONECELL, "two", NOUGHTS), list(schedules(ONECELL, "two", NOUGHTS))
+        first_race(ONECELL, "two", NOUGHTS)
+        self.assertEqual(passed, before)
+        self.assertEqual([str(value) for value in (NEXT, SHOWN, PAIR, COPY, BOTH, ONECELL, ONES, NOUGHTS)], texts)
+        self.assertEqual((PAIR.rows, COPY.rows, COPY.notes, COPY.after), rows)
+
     def test_objects_stay(self):
         texts = [str(value) for value in (FRAME, SHOWN, NEXT, BROKEN)]
         BROKEN.small(SHOWN), BROKEN.laid(SHOWN), BROKEN.new_numbers(SHOWN), BROKEN.with_given(UPTO)
@@ -172,6 +257,55 @@ class Unchanged(unittest.TestCase):
             if one.is_broken_by(situation):
                 self.assertTrue(one.small(situation) == two.small(same))
         self.assertEqual([fitting(CHAIN), ring(CHAIN + (("i", "j", 1),))], [fitting(CHAIN), ring(CHAIN + (("i", "j", 1),))])
+
+
+class Iteration(unittest.TestCase):
+    def test_only_where_a_section_says_so(self):
+        self.assertEqual((len(list(PAIR)), len(list(BOTH))), (1, 2))
+        for value in (FRAME, SHOWN, NEXT, Closing(NEXT), Asker(FRAME), Run(BOTH, "pair", ONES)):
+            self.assertRaises(TypeError, iter, value)
+            self.assertRaises(TypeError, list, value)
+
+
+class LaterErrors(unittest.TestCase):
+    """Several wrong arguments at once."""
+
+    def first(self, expected, call, *told, **more):
+        self.assertEqual(type(raised(call, *told, **more)).__name__, expected)
+
+    def test_the_first_one_is_raised(self):
+        self.first("InvalidName", Function, None, arrays=None, rows=None)
+        self.first("InvalidNumber", COPY.with_notes, 7, None)
+        self.first("InvalidOperation", is_within, None, None)
+        self.first("UnknownName", BOTH.right_of_argument, "none", "x", "y", "z")
+        self.first("InvalidNumber", BOTH.right_of_argument, "pair", 0, 5, 9)
+        self.first("InvalidFunction", BOTH.with_function, None)
+        self.first("InvalidProgram", BOTH.without, "set")
+        self.first("InvalidProgram", Run, None, None, None, viewing=1)
+        self.first("UnknownName", Run, BOTH, None, None, viewing=1)
+        self.first("InvalidSituation", Run, BOTH, "pair", None, viewing=1)
+        self.first("InvalidOperation", Run, BOTH, "pair", ONES, viewing=1, careless=1)
+        self.first("InvalidOperation", Run(BOTH, "pair", ONES).right_at, None, None)
+        self.first("InvalidClaim", Asker(FRAME).tell, None)
+        self.first("InvalidQuestion", paper, None)
+        self.first("InvalidProgram", is_schedule, None, None, None, None, whole=7)
+        self.first("InvalidOperation", is_schedule, BOTH, "pair", ONES, None, whole=7)
+
+    def test_a_call_with_an_error_has_no_effect(self):
+        run, asker = Run(BOTH, "pair", ONES), Asker(FRAME)
+        asker.tell(UPTO)
+        run.go(())
+        for call in (lambda: run.go((5,)), lambda: run.go_on(most=-1), lambda: run.undo(many=9), lambda: asker.undo(many=9),
+                     lambda: asker.tell(("or", ())), lambda: asker.tell(None)):
+            self.assertIsNotNone(raised(call))
+        self.assertEqual((run.schedule, run.active, asker.known), (((),), ((0,), (1,)), (UPTO,)))
+
+    def test_sixty_digits(self):
+        for number, good in ((SIXTY, True), (LONGER, False)):
+            self.assertIs(raised(is_within, (0, number), (-number, number)) is None, good)
+            self.assertIs(raised(Asker(FRAME).tell, ("val", "<", ("x", 0), ("x", number))) is None, good)
+        self.assertIsNotNone(raised(SET.with_rows, (("write", "p", "g", 0, ("y", SIXTY)),), ()))
+        self.assertIsNone(raised(Program, (SET.with_rows((("write", "p", "g", 0, ("y", 10 ** 40 - 1)),), ()),)))
 
 
 class FirstErrors(unittest.TestCase):

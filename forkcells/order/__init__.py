@@ -1,0 +1,1 @@
+"""Orders of the steps of runs, and races in them."""

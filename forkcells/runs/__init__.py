@@ -1,0 +1,1 @@
+"""Runs of programs, step by step, and what comes of them."""
