@@ -147,6 +147,29 @@ class Language(unittest.TestCase):
                             (properties if part.decorator_list else methods).add(part.name)
         self.assertEqual(properties & methods, set())
 
+    def test_attributes_have_names_of_their_own(self):
+        """No attribute that is assigned is a property or a method anywhere."""
+        taken, assigned = set(), {}
+        for path, tree in trees():
+            for node in ast.walk(tree):
+                if isinstance(node, ast.ClassDef):
+                    taken.update([part.name for part in node.body if isinstance(part, ast.FunctionDef)])
+                elif isinstance(node, ast.Attribute) and isinstance(node.ctx, ast.Store):
+                    assigned[node.attr] = path
+        self.assertEqual({name: assigned[name] for name in assigned if name in taken}, {})
+
+    def test_what_is_read_is_assigned_or_defined(self):
+        known, read = set(METHODS), {}
+        for path, tree in trees():
+            for node in ast.walk(tree):
+                if isinstance(node, ast.ClassDef):
+                    known.update([part.name for part in node.body if isinstance(part, ast.FunctionDef)])
+                elif isinstance(node, ast.Attribute) and isinstance(node.ctx, ast.Store):
+                    known.add(node.attr)
+                elif isinstance(node, ast.Attribute):
+                    read[node.attr] = path
+        self.assertEqual({name: read[name] for name in read if name not in known}, {})
+
     def test_sets_stand_in_sorted_and_len(self):
         for path, tree in trees():
             inside = set()

@@ -1,5 +1,7 @@
 """Which values count as integers."""
 
+from forkcells.errors import InvalidNumber, NothingToUndo
+
 
 def is_any_integer(value):
     """Whether the value is an integer, of any length; True and False are none."""
@@ -14,3 +16,11 @@ def is_passed_integer(value):
 def is_index(value, many):
     """Whether the value is an integer from 0 to one less than there are."""
     return is_any_integer(value) and 0 <= value < many
+
+
+def require_undo(many, there):
+    """An error, if so many steps cannot be taken back where so many are there."""
+    if not is_passed_integer(many) or many < 0:
+        raise InvalidNumber(many)
+    if many > there:
+        raise NothingToUndo(many)

@@ -177,24 +177,24 @@ class Function:
 
     def with_rows(self, rows, notes):
         """The function with these rows and notes."""
-        return self._made(self._called, rows, notes, self._before, self._after)
+        return self._changed_to(self._called, rows, notes, self._before, self._after)
 
     def with_notes(self, loop, claims):
         """The function with other notes for a loop."""
         if not is_index(loop, len(self._notes)):
             raise InvalidNumber(loop)
         notes = self._notes[:loop] + (claims,) + self._notes[loop + 1:]
-        return self._made(self._called, self._rows, notes, self._before, self._after)
+        return self._changed_to(self._called, self._rows, notes, self._before, self._after)
 
     def with_contract(self, before, after):
         """The function with another contract."""
-        return self._made(self._called, self._rows, self._notes, before, after)
+        return self._changed_to(self._called, self._rows, self._notes, before, after)
 
     def called_as(self, called):
         """The function with another name."""
-        return self._made(called, self._rows, self._notes, self._before, self._after)
+        return self._changed_to(called, self._rows, self._notes, self._before, self._after)
 
-    def _made(self, called, rows, notes, before, after):
+    def _changed_to(self, called, rows, notes, before, after):
         return Function(called, arrays=self._arrays, positions=self.positions, values=self.amounts,
                         places=self._places, numbers=self._numbers, rows=rows, notes=notes, before=before, after=after)
 

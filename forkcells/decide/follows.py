@@ -1,13 +1,12 @@
 """Which questions follow, papers for the answers, and an asker that answers by what is known."""
 
 from forkcells.base.frames import Frame
-from forkcells.base.integers import is_passed_integer
+from forkcells.base.integers import require_undo
 from forkcells.decide.strategies import finished_search, short_search
-from forkcells.errors import (InvalidClaim, InvalidFrame, InvalidNumber, InvalidOperation, InvalidQuestion,
-                              NothingToUndo, Refused, TooMany)
+from forkcells.errors import InvalidClaim, InvalidFrame, InvalidOperation, Refused, TooMany
 from forkcells.logic.claims import is_claim
 from forkcells.solve.questions import Question
-from forkcells.solve.trees import is_tree
+from forkcells.solve.trees import is_tree, require_question
 
 MAX_MEMBERS = 16
 MAX_FEW = 1000
@@ -96,10 +95,7 @@ class Asker:
 
     def undo(self, *, many=1):
         """Makes the last claims unknown, and returns them, the last one first."""
-        if not is_passed_integer(many) or many < 0:
-            raise InvalidNumber(many)
-        if many > len(self._claims):
-            raise NothingToUndo(many)
+        require_undo(many, len(self._claims))
         kept = len(self._claims) - many
         undone = tuple(self._claims[kept:][::-1])
         del self._claims[kept:]
@@ -125,12 +121,6 @@ class Asker:
 
     def __str__(self):
         return f"asker with {len(self._claims)} claims"
-
-
-def require_question(question):
-    """An error, if it is no question."""
-    if not isinstance(question, Question):
-        raise InvalidQuestion("this is no question")
 
 
 def require_small(question):

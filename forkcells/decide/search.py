@@ -38,7 +38,7 @@ class Search:
             if word == "closed":
                 self.proof = self._state.close(told)
             elif word == "found":
-                self.situation = self._situation(told)
+                self.situation = self._situation_of(told)
             elif word == "clash":
                 self._part(told)
             elif self._broken == 0:
@@ -68,7 +68,7 @@ class Search:
             broken = self._broken_facts(shown, members)
             if len(broken) == 0:
                 return ("found", shown)
-            _, _, clause, use = broken[0]
+            clause, use = broken[0][2:]
             if use is None or self._weight(clause) > 1:
                 return ("choice", broken[:max(1, self._broken)] + self._other_facts(shown))
             self._state.use(use[0], use[1])
@@ -87,7 +87,8 @@ class Search:
         for whole in self._state.wholes:
             for terms in shown.broken_at(whole.claim, members):
                 made = self._state.book.instance(whole, terms)
-                found.append((self._key(made, there), len(found), made, (whole, terms)))
+                if not self._state.is_known(made):
+                    found.append((self._key(made, there), len(found), made, (whole, terms)))
         return sorted(found)
 
     def _other_facts(self, shown):
@@ -125,7 +126,7 @@ class Search:
 
     def _choose(self, option):
         """Makes a choice of the cases of a clause."""
-        _, _, clause, use = option
+        clause, use = option[2:]
         if use is not None:
             self._state.use(use[0], use[1])
         free = self._state.free_leaves(clause)
@@ -153,7 +154,7 @@ class Search:
 
     def _score(self, option):
         """How much all cases of an option leave to do, and how many cases there are."""
-        _, _, clause, use = option
+        clause, use = option[2:]
         if use is not None:
             self._state.use(use[0], use[1])
         memory = self._state.memory()
@@ -164,7 +165,7 @@ class Search:
             self._state.step("cases", clause, None, clause.leaves, k)
             word, told = self._advance()
             if word == "found":
-                self.situation = self._situation(told)
+                self.situation = self._situation_of(told)
                 break
             if word != "closed":
                 score = score + worth_of(self._state.many_edges() - many_edges)
@@ -193,7 +194,7 @@ class Search:
             return ((word, shift), ("", 0))
         return ((self._frame.length_of(array), -1), (word, shift))
 
-    def _situation(self, shown):
+    def _situation_of(self, shown):
         """The situation of a candidate."""
         positions = {word: shown.worth[word] for word in self._frame.positions}
         values = {word: shown.worth[word] for word in self._frame.amounts}

@@ -54,6 +54,10 @@ class State:
         self.first_facts = [self.book.fact_of(claim) for claim in question.facts]
         self._know(self.first_facts)
 
+    def is_known(self, fact):
+        """Whether a fact is known."""
+        return fact.number in self._there
+
     def is_met(self, clause):
         """Whether some part of a clause is known."""
         return len([part for part in clause.parts if part.number in self._there]) > 0

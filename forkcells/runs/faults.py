@@ -98,19 +98,32 @@ def asked_by_fork(look, program, calls):
 
 def fault_of_rights(worker, program, calls):
     """The first fault of the rights that are handed over, or None."""
-    # Each argument as (branch, index, array, way, right).
+    told = handed_over(worker, program, calls)
+    for branch, index, array, _, right in told:
+        if not lies_within(right, worker.origin.rights[array]):
+            return ("within", branch, index)
+    for k in range(len(told)):
+        for other in told[k + 1:]:
+            if does_clash(told[k], other):
+                return ("meet",) + told[k][:2] + other[:2]
+    return None
+
+
+def handed_over(worker, program, calls):
+    """The list of all arguments that are arrays, as tuples (branch, index, array, way, right)."""
     told = []
     for branch in range(len(calls)):
         callee = program[calls[branch][0]]
         rights = argument_rights(worker, callee, calls[branch])
         for index in range(len(rights)):
             told.append((branch, index, calls[branch][1][index], callee.arrays[index][0], rights[index]))
-    for branch, index, array, _, right in told:
-        if not lies_within(right, worker.origin.rights[array]):
-            return ("within", branch, index)
-    for k in range(len(told)):
-        for other in told[k + 1:]:
-            alone = told[k][2] != other[2] or (told[k][3] == "look" and other[3] == "look")
-            if not alone and meets(told[k][4], other[4]):
-                return ("meet",) + told[k][:2] + other[:2]
-    return None
+    return told
+
+
+def does_clash(one, other):
+    """Whether two arguments are one array, not both to look, and their rights meet."""
+    array, way, right = one[2:]
+    other_array, other_way, other_right = other[2:]
+    if array != other_array or (way == "look" and other_way == "look"):
+        return False
+    return meets(right, other_right)

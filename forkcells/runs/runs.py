@@ -1,9 +1,8 @@
 """Runs of programs, step by step."""
 
-from forkcells.base.integers import is_any_integer, is_passed_integer
+from forkcells.base.integers import is_any_integer, require_undo
 from forkcells.code.programs import Program
-from forkcells.errors import (InvalidNumber, InvalidOperation, InvalidProgram, InvalidSituation, NothingToUndo,
-                              UnknownName)
+from forkcells.errors import InvalidNumber, InvalidOperation, InvalidProgram, InvalidSituation, UnknownName
 from forkcells.runs.machine import Machine
 from forkcells.world.situations import Situation
 
@@ -136,10 +135,7 @@ class Run:
 
     def undo(self, *, many=1):
         """Takes the last steps back, and returns their paths, the last one first."""
-        if not is_passed_integer(many) or many < 0:
-            raise InvalidNumber(many)
-        if many > len(self._schedule):
-            raise NothingToUndo(many)
+        require_undo(many, len(self._schedule))
         kept = len(self._schedule) - many
         undone = tuple(self._schedule[kept:][::-1])
         del self._schedule[kept:]

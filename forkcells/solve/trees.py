@@ -1,7 +1,7 @@
 """Trees: papers that show that a question follows."""
 
-from forkcells.base.integers import is_any_integer, is_index, is_passed_integer
-from forkcells.errors import InvalidNumber, InvalidOperation, InvalidQuestion, NothingToUndo
+from forkcells.base.integers import is_any_integer, is_index, require_undo
+from forkcells.errors import InvalidNumber, InvalidOperation, InvalidQuestion
 from forkcells.solve.nodes import joined_node, split_node
 from forkcells.solve.questions import Question
 from forkcells.solve.ways import Way
@@ -105,10 +105,7 @@ class Closing:
 
     def undo(self, *, many=1):
         """Takes the last steps back and returns how many nodes are open then."""
-        if not is_passed_integer(many) or many < 0:
-            raise InvalidNumber(many)
-        if many > len(self._made):
-            raise NothingToUndo(many)
+        require_undo(many, len(self._made))
         for _ in range(many):
             number, _, nexts = self._made.pop()
             del self._waiting[len(self._waiting) - len(nexts):]
