@@ -6,6 +6,8 @@ import unittest
 
 from forkcells.base.frames import Frame
 from forkcells.decide.follows import Asker, breaking, follows, is_paper, paper
+from forkcells.decide.search import Search
+from forkcells.decide.strategies import STRATEGIES
 from forkcells.errors import (InvalidClaim, InvalidFrame, InvalidNumber, InvalidOperation, InvalidQuestion,
                               NothingToUndo, Refused, TooMany)
 from forkcells.logic.claims import carried, renamed_claim, replaced
@@ -582,6 +584,39 @@ class Askers(unittest.TestCase):
         for value in odd_values():
             if not isinstance(value, Frame):
                 self.assertIsInstance(raised(Asker, value), InvalidFrame)
+
+
+class Strategies(unittest.TestCase):
+    """Each strategy finds the same answers by itself; the shortest proof of all is written."""
+
+    def check(self, question, name):
+        answers = []
+        for strategy in STRATEGIES:
+            search = Search(question, strategy)
+            search.run(20000)
+            self.assertTrue(search.is_over(), name)
+            answers.append(search.situation is None)
+            if search.situation is None:
+                self.assertTrue(is_tree(question, search.written()), name)
+            else:
+                self.assertTrue(question.is_broken_by(search.situation), name)
+        self.assertEqual(len(set(answers)), 1, name)
+
+    def test_random_questions(self):
+        for k, (question, _) in enumerate(small_questions(9000, 200)):
+            self.check(question, k)
+
+    def test_hard_questions(self):
+        for name in ("partition", "insertion", "wrong insertion", "three branches", "four writes", "four wrong writes",
+                     "two values", "two wrong values", "least of six", "six in five", "new ones", "far apart, wrong"):
+            self.check(HARD[name][1], name)
+
+    def test_another_strategy_helps(self):
+        question = HARD["least of eight"][1]
+        first = Search(question, STRATEGIES[0])
+        first.run(1000)
+        self.assertFalse(first.is_over())
+        self.assertLess(len(paper(question)[1]), 1000)
 
 
 class Proportions(unittest.TestCase):

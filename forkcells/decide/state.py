@@ -135,9 +135,9 @@ class State:
     def _next_branch(self, made, proof):
         """Keeps the proof of a branch, and goes on in the next one, where its fact is not true."""
         made.closed[made.turn] = proof
-        fact = made.branches[made.turn][-1]
-        if made.word == "cases" and fact.placed and len(fact.edges) == 1 and proof.size <= self._most_cut:
-            opposite = self.book.opposite(fact)
+        branch = made.branches[made.turn]
+        if made.word == "cases" and can_be_cut(branch, proof) and proof.size <= self._most_cut:
+            opposite = self.book.opposite(branch[-1])
             self._loose[opposite.number] = True
             made.cuts.append((made.turn, opposite))
         self.come_back(made.ahead)
@@ -339,6 +339,13 @@ class State:
                 return fact
         self.step("apart", None, pair, [[fact] for fact in orders], index)
         return orders[index]
+
+
+def can_be_cut(branch, proof):
+    """Whether the last fact of a branch is one difference of positions, and the proof needs it alone."""
+    if not branch[-1].placed or len(branch[-1].edges) != 1:
+        return False
+    return len([fact for fact in branch[:-1] if fact.number in proof.uses]) == 0
 
 
 def is_needed(made, proof):
