@@ -2,20 +2,28 @@
 
 from forkcells.decide.search import Search
 
-# Any proof is short enough for the first and the last one, none for the second one.
-STRATEGIES = ((False, 1000000000, 0, 0), (True, 0, 0, 0), (False, 1000000000, 10, 4))
+# Any proof is short enough where the second number is great, none where it is 0.
+STRATEGIES = (
+    (False, 1000000000, 0, 0),
+    (True, 0, 0, 0),
+    (False, 1000000000, 10, 4),
+    (True, 200, 0, 0),
+    (True, 1000000000, 10, 4),
+)
+# How many of them take turns where any answer will do.
+FIRST = 3
 MANY_ROUNDS = 1000
 # How many nodes a proof has that is short enough, and how many a tree may have.
 SHORT = 2500
 MAX_NODES = 5000
-MOST_ROUNDS = 64000
+MOST_ROUNDS = 16000
 
 
 def finished_search(question):
-    """A search that is over. The strategies take turns, with more and more rounds."""
+    """A search that is over. The first strategies take turns, with more and more rounds."""
     many = MANY_ROUNDS
     while True:
-        for strategy in STRATEGIES:
+        for strategy in STRATEGIES[:FIRST]:
             search = Search(question, strategy)
             search.run(many)
             if search.is_over():
