@@ -116,14 +116,16 @@ def fewest_steps(edges, many, start, goal, most):
     """
     if start == goal and most >= 0:
         return []
+    leads = {}
+    for k in range(many):
+        leads.setdefault(edges[k][0], []).append(k)
     least = {start: 0}
     layers = [{start: (0, None)}]
     while len(layers[-1]) > 0:
         layer = {}
-        for k in range(many):
-            one, other = edges[k][0], edges[k][1]
-            if one in layers[-1]:
-                total = layers[-1][one][0] + edges[k][2]
+        for point in layers[-1]:
+            for k in leads.get(point, ()):
+                other, total = edges[k][1], layers[-1][point][0] + edges[k][2]
                 if other not in least or total < least[other]:
                     least[other] = total
                     layer[other] = (total, k)
