@@ -40,6 +40,10 @@ def claim_of(depth):
     return claim
 
 
+def claim_of_number(number):
+    return ("pos", "<", ("", 0), ("", number))
+
+
 class Headings(unittest.TestCase):
     def good(self, **more):
         self.assertIsNone(raised(made, **more), more)
@@ -381,6 +385,11 @@ class Making(unittest.TestCase):
         self.assertEqual(told.rows, COPY.rows)
         loops = Function("f", rows=(("while", ("and", ()), ()), ("while", ("or", ()), ())), notes=((), ()))
         self.assertEqual(loops.with_notes(1, (("and", ()),)).notes, ((), (("and", ()),)))
+        four = Function("f", rows=(("while", ("and", ()), ()),) * 4, notes=tuple([(claim_of_number(k),) for k in range(4)]))
+        for k in range(4):
+            notes = list(four.notes)
+            notes[k] = (claim_of_number(9),)
+            self.assertEqual(four.with_notes(k, (claim_of_number(9),)).notes, tuple(notes))
         for value in (1, -1, True, None, "0", 10 ** 99, (0,), [0]):
             error = raised(COPY.with_notes, value, None)
             self.assertIsInstance(error, InvalidNumber)
