@@ -20,6 +20,11 @@ METHODS = ("append clear copy count endswith extend find get index insert isalnu
            "rsplit rstrip setdefault split splitlines startswith strip update upper values zfill bit_length add "
            "discard").split()
 
+WALKERS = ("enumerate", "zip", "reversed", "map", "chain", "accumulate", "pairwise", "islice")
+VIEWS = ("items", "keys", "values")
+CHANGERS = ("append", "clear", "extend", "insert", "pop", "remove", "reverse", "setdefault", "update", "sort", "add",
+            "discard", "appendleft", "popleft", "extendleft", "rotate")
+
 
 def files():
     for folder, _, names in sorted(os.walk(TOP)):
@@ -36,6 +41,49 @@ def read(path):
 def trees():
     for path in files():
         yield path, ast.parse(read(path))
+
+
+def root_of(node):
+    """The name with which an attribute or an item of something begins, or None."""
+    while isinstance(node, (ast.Attribute, ast.Subscript)):
+        node = node.value
+    return node.id if isinstance(node, ast.Name) else None
+
+
+def walked_by(node):
+    """What a loop over this expression walks itself; a copy by list(..) or a slice is something else."""
+    if isinstance(node, ast.IfExp):
+        return walked_by(node.body) + walked_by(node.orelse)
+    if isinstance(node, ast.BoolOp):
+        return [part for value in node.values for part in walked_by(value)]
+    if isinstance(node, ast.Call) and isinstance(node.func, ast.Name) and node.func.id in WALKERS:
+        return [part for value in node.args for part in walked_by(value)]
+    if isinstance(node, ast.Call) and isinstance(node.func, ast.Attribute) and node.func.attr in VIEWS:
+        return walked_by(node.func.value)
+    if isinstance(node, ast.Subscript) and isinstance(node.slice, ast.Slice):
+        return []
+    return [node] if isinstance(node, (ast.Name, ast.Attribute, ast.Subscript)) else []
+
+
+def changed_in(rows):
+    """What these rows change: the objects of methods that modify, and of items and attributes that are assigned."""
+    for node in [part for row in rows for part in ast.walk(row)]:
+        if isinstance(node, ast.Call) and isinstance(node.func, ast.Attribute) and node.func.attr in CHANGERS:
+            yield node.func.value
+        elif isinstance(node, (ast.Attribute, ast.Subscript)) and not isinstance(node.ctx, ast.Load):
+            yield node.value
+        elif isinstance(node, ast.AugAssign):
+            yield node.target
+
+
+def sources_in(function):
+    """A dict from variables to the names out of whose items or fields they were taken."""
+    found = {}
+    for node in ast.walk(function):
+        if isinstance(node, ast.Assign) and isinstance(node.targets[0], ast.Name):
+            if isinstance(node.value, (ast.Subscript, ast.Attribute)):
+                found.setdefault(node.targets[0].id, set()).add(root_of(node.value))
+    return found
 
 
 def bound_names(tree):
@@ -180,6 +228,29 @@ class Language(unittest.TestCase):
                 called = isinstance(node, ast.Call) and isinstance(node.func, ast.Name) and node.func.id == "set"
                 if called or isinstance(node, (ast.Set, ast.SetComp)):
                     self.assertIn(id(node), inside, (path, node.lineno))
+
+    def test_what_a_loop_walks_is_not_changed_in_it(self):
+        """Neither by its name nor by a field, nor where it was taken out of what is changed."""
+        for path, tree in trees():
+            for function in [node for node in ast.walk(tree) if isinstance(node, ast.FunctionDef)]:
+                sources = sources_in(function)
+                for loop in [node for node in ast.walk(function) if isinstance(node, ast.For)]:
+                    roots = set()
+                    for walked in walked_by(loop.iter):
+                        roots.update({root_of(walked)} | sources.get(root_of(walked), set()))
+                    for changed in changed_in(loop.body):
+                        met = {root_of(changed)} | sources.get(root_of(changed), set())
+                        self.assertEqual((met & roots) - {None}, set(), (path, loop.lineno))
+
+    def test_what_extends_is_not_what_is_extended(self):
+        for path, tree in trees():
+            for node in ast.walk(tree):
+                if isinstance(node, ast.Call) and isinstance(node.func, ast.Attribute) and node.func.attr in ("extend", "update"):
+                    for walked in [part for value in node.args for part in walked_by(value)]:
+                        self.assertNotEqual(root_of(walked), root_of(node.func.value), (path, node.lineno))
+                if isinstance(node, ast.AugAssign):
+                    for walked in walked_by(node.value):
+                        self.assertNotEqual(root_of(walked), root_of(node.target), (path, node.lineno))
 
     def test_names(self):
         for path, tree in trees():

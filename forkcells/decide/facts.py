@@ -84,7 +84,7 @@ class Book:
             self._spare = self._spare[many:]
             guard, body = used(claim[1], [(word, 0) for word in made.made])
             made.parts = [self.fact_of(guard), self.fact_of(("not", body))]
-        for part in made.parts:
+        for part in list(made.parts):
             made.cells.extend(list(part.cells))
         return made
 

@@ -242,7 +242,7 @@ class State:
         while self._taken < len(self._way):
             fact = self._way[self._taken]
             self._taken = self._taken + 1
-            for point in fact.cells:
+            for point in list(fact.cells):
                 self._played[point] = True
             if fact.shape == "edge":
                 if self.bars(fact):

@@ -26,7 +26,7 @@ def all_moments(machine, most):
     index = 0
     while index < len(found):
         ahead = found[index]
-        for number in ahead.free:
+        for number in list(ahead.free):
             machine.come_back(ahead.kept)
             machine.do(number)
             key = machine.moment()

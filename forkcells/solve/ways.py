@@ -19,8 +19,8 @@ class Way:
         facts, names = self._marks.get(self._parents[number], (0, 0))
         del self._facts[facts:]
         del self._names[names:]
-        self._facts.extend(self._added[number][0])
-        self._names.extend(self._added[number][1])
+        self._facts.extend(list(self._added[number][0]))
+        self._names.extend(list(self._added[number][1]))
         self._marks[number] = (len(self._facts), len(self._names))
 
     def enter_from_start(self, number):
