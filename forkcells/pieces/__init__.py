@@ -1,0 +1,1 @@
+"""Pieces of functions, their questions, and papers of programs."""

@@ -1,0 +1,1 @@
+"""How functions stand in for one another, and which rights they need."""
