@@ -25,22 +25,22 @@ class Piece:
 
     def __init__(self, program, called, trail):
         function = program[called]
-        require_few_rows(function, trail.numbers)
+        require_few_rows(function, trail.passed)
         self._program = program
         self._called = called
         self._trail = trail
         sketch = Sketch(program, function, trail)
         at_start = function.before if trail.first == -1 else function.notes[trail.first]
-        sketch.known = [sketch.put(claim) for claim in at_start]
-        self._claims = tuple(sketch.known)
+        sketch.given = [sketch.put(claim) for claim in at_start]
+        self._claims = tuple(sketch.given)
         answers = trail.told
-        for number in trail.numbers:
+        for number in trail.passed:
             sketch.pass_row(number, answers)
             if function.row(number)[0] in ("if", "while"):
                 answers = answers[1:]
         ask_goals(sketch, function, trail.last)
         self._frame = sketch.ground
-        self._facts = tuple(sketch.known)
+        self._facts = tuple(sketch.given)
         self._names = {array: sketch.newest[array] for array in sorted([told[1] for told in function.arrays])}
         self._asked = tuple(sketch.asked)
         self._uses = tuple(sketch.uses)
@@ -73,7 +73,7 @@ class Piece:
     @property
     def trail(self):
         """The numbers of its rows, in order."""
-        return self._trail.numbers
+        return self._trail.passed
 
     @property
     def frame(self):
@@ -117,7 +117,7 @@ class Piece:
 
     def __str__(self):
         first, last = shown_mark(self._trail.first, "start"), shown_mark(self._trail.last, "end")
-        return f"piece of {self._called} from {first} to {last}: {len(self._trail.numbers)} rows"
+        return f"piece of {self._called} from {first} to {last}: {len(self._trail.passed)} rows"
 
 
 def uses_in(piece):

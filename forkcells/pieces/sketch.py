@@ -12,20 +12,20 @@ from forkcells.solve.questions import Question
 class Sketch:
     """Goes along a way, and puts all terms in terms of its beginning.
 
-    `newest` has the newest versions of arrays, and what was names stand for; `known` are the claims
+    `newest` has the newest versions of arrays, and what was names stand for; `given` are the claims
     and facts so far, `asked` the pairs of a kind and a question. For each of these `uses` has the
     array that it is about, with a term of a cell or a pair of terms of a right, or None.
     """
 
     def __init__(self, program, function, trail):
-        self._code = program
+        self._program = program
         self._function = function
         self.ground, self._spare = piece_frame(program, function, trail)
         self.newest = {array: array for array, _ in function.frame.arrays}
         # Locals by the terms that they were given last.
         self._terms = {}
         self._own = first_own(function.frame, ())
-        self.known = []
+        self.given = []
         self.asked = []
         self.uses = []
         if trail.first == -1:
@@ -46,7 +46,7 @@ class Sketch:
         """Asks a question, with what is known and these claims more."""
         self.uses.append(use)
         try:
-            self.asked.append((kind, Question(self.ground, tuple(self.known + more), wanted)))
+            self.asked.append((kind, Question(self.ground, tuple(self.given + more), wanted)))
         except InvalidQuestion:
             raise InvalidOperation("a question has too many given claims, or what is no claim")
 
@@ -66,7 +66,7 @@ class Sketch:
         else:
             self._ask_condition(number, row[1], [])
             fact = put_claim(self.newest, self._terms, row[1])
-            self.known.append(fact if answers[0] else ("not", fact))
+            self.given.append(fact if answers[0] else ("not", fact))
 
     def _ask_cells(self, number, terms):
         """Asks for the cells among terms whether they can be used; a written one has no number."""
@@ -97,9 +97,9 @@ class Sketch:
         elder, own = self.newest[array], (self._own, 0)
         new = self._spare.pop(0)
         word, number = term
-        self.known.append(("val", "==", (new,) + term + (0,), put_value(self.newest, self._terms, value)))
+        self.given.append(("val", "==", (new,) + term + (0,), put_value(self.newest, self._terms, value)))
         beside = (("pos", "<=", own, (word, number - 1)), ("pos", "<=", (word, number + 1), own))
-        self.known.append(self._alike(("or", beside), new, elder))
+        self.given.append(self._alike(("or", beside), new, elder))
         self.newest[array] = new
 
     def _alike(self, guard, one, other):
@@ -114,7 +114,7 @@ class Sketch:
             called, arrays, positions, values = calls[branch]
             positions = tuple([put_position(self._terms, term) for term in positions])
             values = tuple([put_value(self.newest, self._terms, term) for term in values])
-            handings.append(Handing(self._function, self._code[called], branch, arrays, positions, values))
+            handings.append(Handing(self._function, self._program[called], branch, arrays, positions, values))
         self._ask_fork(number, handings)
         self._pass_fork(handings)
 
@@ -140,10 +140,10 @@ class Sketch:
         for handing in handings:
             for argument in full_ones([handing]):
                 guard = outside_right(self._own, argument.right)
-                self.known.append(self._alike(guard, argument.version, self.newest[argument.array]))
+                self.given.append(self._alike(guard, argument.version, self.newest[argument.array]))
             arrays = handing.arrays_behind(self.newest)
             for claim in handing.callee.after:
-                self.known.append(self._put_in(arrays, handing.terms, claim))
+                self.given.append(self._put_in(arrays, handing.terms, claim))
         for told in self._function.arrays:
             self._join(told[1], [argument for argument in given if argument.array == told[1]])
 
@@ -154,7 +154,7 @@ class Sketch:
         new = self._spare.pop(0)
         for argument in given:
             guard = in_right(self._own, argument.right)
-            self.known.append(self._alike(guard, new, argument.version))
+            self.given.append(self._alike(guard, new, argument.version))
         outsides = tuple([outside_right(self._own, argument.right) for argument in given])
-        self.known.append(self._alike(("and", outsides), new, self.newest[array]))
+        self.given.append(self._alike(("and", outsides), new, self.newest[array]))
         self.newest[array] = new

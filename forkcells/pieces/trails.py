@@ -10,7 +10,7 @@ class Trail:
         self.first = first
         self.last = last
         self.told = told
-        self.numbers = numbers
+        self.passed = numbers
 
 
 def trails_of(function, most):

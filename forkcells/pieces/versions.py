@@ -9,7 +9,7 @@ def piece_frame(program, function, trail):
     """The frame of a piece, and the list of the names of its versions, in order."""
     whole = function.frame
     known = function.start_frame.arrays if trail.first == -1 else whole.arrays
-    lengths = [length for number in trail.numbers for length in lengths_made(program, function, function.row(number))]
+    lengths = [length for number in trail.passed for length in lengths_made(program, function, function.row(number))]
     names = version_names(function, len(lengths))
     if len(known) + len(lengths) > MAX_ARRAYS or len(names) < len(lengths):
         raise InvalidOperation("there are too many versions of arrays")

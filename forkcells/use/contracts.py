@@ -31,7 +31,7 @@ def contract_questions(one, other):
         asked.append((("before", index), Question(other.start_frame, other.before, wanted)))
     for index in range(len(one.arrays)):
         right = other.right_of(other.arrays[index][1])
-        wanted = within_claim(crossing.right(index), right)
+        wanted = within_claim(crossing.put_right(index), right)
         asked.append((("right", index), Question(other.start_frame, other.before, wanted)))
     given = known_behind(crossing, one, other)
     for index in range(len(other.after)):
@@ -92,7 +92,7 @@ class Crossing:
         """A claim, for a frame of the other function."""
         return carried_to(frame, self._arrays, self._terms, claim)
 
-    def right(self, index):
+    def put_right(self, index):
         """The right to an array, by its index."""
         low, high = self._rights[index]
         return (put_position(self._terms, low), put_position(self._terms, high))
@@ -115,7 +115,7 @@ def known_behind(crossing, one, other):
     for index in range(len(other.arrays)):
         array = other.arrays[index][1]
         if array in elder:
-            guard = outside_right(own, crossing.right(index))
+            guard = outside_right(own, crossing.put_right(index))
             body = ("val", "==", (array, own, 0, 0), (elder[array], own, 0, 0))
             given.append(("all", (own,), guard, body))
     return tuple(given + [crossing.put(frame, claim) for claim in one.after])

@@ -1,0 +1,1 @@
+"""A desk on which functions are changed, and claims about them hold."""

@@ -1,0 +1,1 @@
+"""Texts of claims, rows, functions and situations, and a shell."""
