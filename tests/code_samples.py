@@ -38,3 +38,22 @@ COPY = Function(
     notes=((UPTO, ("pos", "<=", ("s", 0), ("i", 0))),),
     before=(("pos", "<=", ("s", 0), ("t", 0)),),
     after=(("all", ("i",), ("in", "i", ("t", 0), ("n", 0)), ("val", "==", ("a", "i", 0, 0), ("old", "i", 0, 0))),))
+
+# Two functions of which one forks the other one for both halves of its array; both are kept.
+FILLED = ("all", ("k",), ("in", "k", ("s", 0), ("i", 0)), ("val", "==", ("a", "k", 0, 0), ("x", 0)))
+DONE = ("all", ("k",), ("in", "k", ("s", 0), ("t", 0)), ("val", "==", ("a", "k", 0, 0), ("x", 0)))
+SPAN = ("and", (("pos", "<=", ("", 0), ("s", 0)), ("pos", "<=", ("t", 0), ("n", 0))))
+LOOP = ("while", ("pos", "<", ("i", 0), ("t", 0)), (("write", "a", "i", 0, ("x", 0)), ("move", "i", ("i", 1))))
+FILL = Function(
+    "fill", arrays=(("full", "a", "n", "old", ("s", 0), ("t", 0)),), positions=("s", "t"), values=("x",), places=("i",),
+    rows=(("move", "i", ("s", 0)), LOOP),
+    notes=((FILLED, SPAN, ("pos", "<=", ("s", 0), ("i", 0)), ("pos", "<=", ("i", 0), ("t", 0))),),
+    before=(SPAN, ("pos", "<=", ("s", 0), ("t", 0))), after=(DONE,))
+PARTS = (("fill", ("b",), (("", 0), ("h", 0)), (("", 1),)), ("fill", ("b",), (("h", 0), ("m", 0)), (("", 2),)))
+HALVES = Function(
+    "halves", arrays=(("full", "b", "m", "was", ("", 0), ("m", 0)),), positions=("h",), rows=(("fork", PARTS),),
+    before=(("pos", "<=", ("", 0), ("h", 0)), ("pos", "<=", ("h", 0), ("m", 0))),
+    after=(("or", (("pos", "<=", ("h", 0), ("", 0)), ("val", "==", ("b", "", 0, 0), ("", 1)))),))
+TWO = Program((FILL, HALVES))
+OVER = (("fill", ("b",), (("", 0), ("h", 1)), (("", 1),)), ("fill", ("b",), (("h", 0), ("m", 0)), (("", 2),)))
+LOOSE = TWO.with_function(HALVES.with_rows((("fork", OVER),), ()))

@@ -49,10 +49,12 @@ class Desk:
         """Takes functions in, each in the place of the one with its name."""
         if not are_different_functions(functions):
             raise InvalidFunction("this is no tuple of functions with different names")
-        table = {**self._now.held, **{function.called: function for function in functions}}
-        if len(table) > MAX_FUNCTIONS:
+        held = dict(self._now.held)
+        for function in functions:
+            held[function.called] = function
+        if len(held) > MAX_FUNCTIONS:
             raise TooMany(MAX_FUNCTIONS)
-        return self._change(table, self._now.demanded)
+        return self._change(held, self._now.demanded)
 
     def take(self, name):
         """Takes a function away."""
