@@ -10,17 +10,25 @@ from forkcells.code.functions import Function
 from forkcells.code.programs import Program
 from forkcells.code.rights import is_within
 from forkcells.decide.follows import Asker, breaking, follows, is_paper, paper
+from forkcells.desk.desk import Desk
 from forkcells.errors import InvalidFrame, InvalidNumber, InvalidTerm, TooMany
 from forkcells.logic.claims import carried, is_claim, renamed_claim, replaced, used_at
 from forkcells.order.races import first_race, is_race
 from forkcells.order.schedules import ends, is_parting, is_schedule, parting, schedules
+from forkcells.order.traces import exchanged, forms, is_exchange_way, sorted_form
+from forkcells.pieces.kept import is_kept, is_kept_paper, kept_paper, kinds_broken
+from forkcells.pieces.pieces import pieces
 from forkcells.runs.outcomes import first_break, outcome
 from forkcells.runs.runs import Run
 from forkcells.solve.differences import fitting, is_fitting, is_ring, ring, tightest
 from forkcells.solve.questions import Question
 from forkcells.solve.trees import Closing, facts_at, is_tree
+from forkcells.text.shell import Shell
+from forkcells.text.texts import read_situation, write_functions
+from forkcells.use.contracts import is_standing_paper, standing_paper
+from forkcells.use.rights import fitting_lows, is_fitting_right
 from forkcells.world.situations import Situation
-from code_samples import BOTH, COPY, NOUGHTS, ONECELL, ONES, PAIR, SET
+from code_samples import BOTH, COPY, FILL, HALVES, NOUGHTS, ONECELL, ONES, PAIR, SET, TWO
 from samples import (BROKEN, CHAIN, FRAME, LONGER, Maker, NEXT, SHOWN, SIXTY, UPTO, WIDE, odd_values,
                      raised)
 
@@ -52,6 +60,27 @@ FUNCTIONS = {
         "races_at": "run", "clashes": "program, called, situation, schedule",
         "late_clashes": "program, called, situation, schedule", "is_free": "program, called, situation",
         "first_race": "program, called, situation", "is_race": "program, called, situation, value"},
+    "forkcells.order.traces": {
+        "exchanges": "program, called, situation, schedule", "exchanged": "program, called, situation, schedule, index",
+        "sorted_form": "program, called, situation, schedule", "are_alike": "program, called, situation, one, other",
+        "exchange_way": "program, called, situation, one, other",
+        "is_exchange_way": "program, called, situation, one, other, value", "forms": "program, called, situation"},
+    "forkcells.pieces.pieces": {"pieces": "program, called"},
+    "forkcells.pieces.kept": {
+        "is_kept": "program, called", "is_program_kept": "program", "broken_questions": "program, called",
+        "kinds_broken": "program", "kept_paper": "program", "is_kept_paper": "program, value",
+        "is_orderless": "program, called"},
+    "forkcells.use.contracts": {
+        "headings_alike": "one, other", "contract_questions": "one, other", "stands_in": "one, other",
+        "standing_paper": "one, other", "is_standing_paper": "one, other, value"},
+    "forkcells.use.rights": {
+        "with_rights": "function, rights", "fitting_lows": "program, called, array, candidates",
+        "fitting_highs": "program, called, array, candidates", "is_fitting_right": "program, called, array, value",
+        "narrowed": "program, called, candidates"},
+    "forkcells.text.texts": {
+        "write_claim": "claim", "write_rows": "rows", "write_function": "function", "write_functions": "functions",
+        "read_claim": "text", "read_rows": "text", "read_function": "text", "read_functions": "text",
+        "write_situation": "situation", "read_situation": "frame, text"},
 }
 
 CONSTANTS = {
@@ -59,6 +88,9 @@ CONSTANTS = {
         "MAX_ROWS": 24, "MAX_LOOPS": 4, "MAX_INSIDE": 4, "MAX_CLAIMS": 4, "MAX_BRANCHES": 3},
     "forkcells.code.programs": {"MAX_FUNCTIONS": 6},
     "forkcells.order.schedules": {"MAX_STEPS": 12, "MAX_MOMENTS": 2000},
+    "forkcells.order.traces": {"MAX_SORTED": 64},
+    "forkcells.pieces.pieces": {"MAX_PIECES": 64, "MAX_WRITES": 4, "MAX_FORKS": 2},
+    "forkcells.desk.desk": {"MAX_FUNCTIONS": 6, "MAX_CLAIMS": 8},
 }
 
 CLASSES = {
@@ -96,6 +128,13 @@ CLASSES = {
         "__init__": "program, called, situation, *, viewing=False, careless=False", "is_over": "", "is_done": "",
         "go": "path", "go_on": "*, most=100", "row_at": "path", "sight": "path", "right_at": "path, array",
         "touches": "path", "undo": "*, many=1", "twin": "", "__len__": "", "__eq__": "other", "__str__": ""},
+    ("forkcells.pieces.pieces", "Piece"): {"questions": "", "is_right": "", "__eq__": "other", "__str__": ""},
+    ("forkcells.desk.desk", "Desk"): {
+        "__init__": "", "put": "functions", "take": "name", "revise": "name, change", "demand": "claim", "waive": "claim",
+        "undo": "*, many=1", "redo": "*, many=1", "during": "call", "twin": "", "whole": "", "callers": "called",
+        "__getitem__": "name", "__contains__": "value", "__len__": "", "__iter__": "", "__eq__": "other", "__str__": ""},
+    ("forkcells.text.shell", "Shell"): {
+        "__init__": "", "__call__": "command", "answer": "command", "desk": "", "__len__": "", "__str__": ""},
 }
 
 PROPERTIES = {
@@ -110,7 +149,16 @@ PROPERTIES = {
     ("forkcells.code.programs", "Program"): ("functions", "names"),
     ("forkcells.runs.runs", "Run"): (
         "program", "active", "waiting", "stuck", "schedule", "trail", "places", "end"),
+    ("forkcells.pieces.pieces", "Piece"): (
+        "program", "called", "start", "stop", "answers", "trail", "frame", "claims", "facts", "names"),
+    ("forkcells.desk.desk", "Desk"): ("names", "claims", "verdicts"),
 }
+
+
+def filled_desk():
+    desk = Desk()
+    desk.put(TWO.functions)
+    return desk
 
 
 def words(call, first):
@@ -166,7 +214,16 @@ class Judging(unittest.TestCase):
                  lambda value: is_schedule(BOTH, "pair", ONES, value), lambda value: is_race(BOTH, "pair", ONES, value),
                  lambda value: is_parting(BOTH, "pair", ONES, value),
                  lambda value: is_parting(BOTH, "pair", ONES, (value, ())),
-                 lambda value: is_race(BOTH, "pair", ONES, (value, (), value))]
+                 lambda value: is_race(BOTH, "pair", ONES, (value, (), value)),
+                 lambda value: is_exchange_way(BOTH, "pair", ONES, ((),), ((),), value),
+                 lambda value: is_exchange_way(BOTH, "pair", ONES, ((),), ((),), (value,)),
+                 lambda value: is_kept_paper(TWO, value), lambda value: is_kept_paper(TWO, ("kept", value)),
+                 lambda value: is_kept_paper(TWO, ("kept", {"fill": value, "halves": ((value,),)})),
+                 lambda value: is_standing_paper(FILL, FILL, value),
+                 lambda value: is_standing_paper(FILL, FILL, ("stands", value)),
+                 lambda value: is_standing_paper(FILL, FILL, ("falls", value, value)),
+                 lambda value: is_fitting_right(TWO, "fill", "a", value), lambda value: Desk() == value,
+                 lambda value: value in Desk(), lambda value: pieces(TWO, "fill")[0] == value]
         deep = [("not", value) for value in odd_values()] + [(value,) * 3 for value in odd_values()]
         deep += [("and", (value, value)) for value in odd_values()] + [{"a": value} for value in odd_values()]
         for call in calls:
@@ -226,6 +283,8 @@ class Unchanged(unittest.TestCase):
         outcome(BOTH, "pair", ONES), first_break(BOTH, "pair", ONES), Run(BOTH, "pair", ONES).go_on()
         ends(ONECELL, "two", NOUGHTS), parting(ONECELL, "two", NOUGHTS), list(schedules(ONECELL, "two", NOUGHTS))
         first_race(ONECELL, "two", NOUGHTS)
+        sorted_form(ONECELL, "two", NOUGHTS, ()), forms(ONECELL, "two", NOUGHTS), kept_paper(TWO), kinds_broken(TWO)
+        standing_paper(FILL, FILL), filled_desk().demand(("kept", "fill")), write_functions(TWO.functions)
         self.assertEqual(passed, before)
         self.assertEqual([str(value) for value in (NEXT, SHOWN, PAIR, COPY, BOTH, ONECELL, ONES, NOUGHTS)], texts)
         self.assertEqual((PAIR.rows, COPY.rows, COPY.notes, COPY.after), rows)
@@ -262,7 +321,8 @@ class Unchanged(unittest.TestCase):
 class Iteration(unittest.TestCase):
     def test_only_where_a_section_says_so(self):
         self.assertEqual((len(list(PAIR)), len(list(BOTH))), (1, 2))
-        for value in (FRAME, SHOWN, NEXT, Closing(NEXT), Asker(FRAME), Run(BOTH, "pair", ONES)):
+        self.assertEqual((list(Desk()), len(list(filled_desk()))), ([], 2))
+        for value in (FRAME, SHOWN, NEXT, Closing(NEXT), Asker(FRAME), Run(BOTH, "pair", ONES), pieces(TWO, "fill")[0], Shell()):
             self.assertRaises(TypeError, iter, value)
             self.assertRaises(TypeError, list, value)
 
@@ -290,6 +350,19 @@ class LaterErrors(unittest.TestCase):
         self.first("InvalidQuestion", paper, None)
         self.first("InvalidProgram", is_schedule, None, None, None, None, whole=7)
         self.first("InvalidOperation", is_schedule, BOTH, "pair", ONES, None, whole=7)
+        self.first("InvalidProgram", exchanged, None, None, None, None, None)
+        self.first("InvalidOperation", exchanged, BOTH, "pair", ONES, None, None)
+        self.first("InvalidNumber", exchanged, BOTH, "pair", ONES, (), None)
+        self.first("InvalidProgram", is_kept, None, None)
+        self.first("UnknownName", is_kept, TWO, None)
+        self.first("InvalidFunction", is_standing_paper, FILL, None, None)
+        self.first("InvalidOperation", is_standing_paper, FILL, HALVES, None)
+        self.first("UnknownName", fitting_lows, TWO, "fill", None, None)
+        self.first("InvalidOperation", fitting_lows, TWO, "fill", "a", None)
+        self.first("UnknownName", Desk().revise, None, None)
+        self.first("InvalidNumber", Desk().undo, many=None)
+        self.first("InvalidFrame", read_situation, None, None)
+        self.first("ParseError", read_situation, FRAME, None)
 
     def test_a_call_with_an_error_has_no_effect(self):
         run, asker = Run(BOTH, "pair", ONES), Asker(FRAME)
