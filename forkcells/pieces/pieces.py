@@ -116,8 +116,7 @@ class Piece:
         return self._trail.first == other._trail.first and self._trail.told == other._trail.told
 
     def __str__(self):
-        first, last = shown_mark(self._trail.first, "start"), shown_mark(self._trail.last, "end")
-        return f"piece of {self._called} from {first} to {last}: {len(self._trail.passed)} rows"
+        return f"piece of {self._called} {shown_way(self._trail)}"
 
 
 def uses_in(piece):
@@ -125,9 +124,11 @@ def uses_in(piece):
     return piece._uses
 
 
-def shown_mark(loop, word):
-    """The number of a loop, or a word for none."""
-    return word if loop == -1 else str(loop)
+def shown_way(trail):
+    """The text of a way."""
+    first = "start" if trail.first == -1 else str(trail.first)
+    last = "end" if trail.last == -1 else str(trail.last)
+    return f"from {first} to {last}: {len(trail.passed)} rows"
 
 
 def ask_goals(sketch, function, last):
