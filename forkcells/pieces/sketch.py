@@ -88,7 +88,7 @@ class Sketch:
             for part in claim[1]:
                 self._ask_condition(number, part, ahead)
                 put = put_claim(self.newest, self._terms, part)
-                ahead = ahead + [put if claim[0] == "and" else ("not", put)]
+                ahead.append(put if claim[0] == "and" else ("not", put))
         else:
             for cell in cells_in(claim):
                 self._ask_usable(number, cell, more)
@@ -144,7 +144,7 @@ class Sketch:
             arrays = handing.arrays_behind(self.newest)
             for claim in handing.callee.after:
                 self.given.append(self._put_in(arrays, handing.terms, claim))
-        for told in self._function.arrays:
+        for told in list(self._function.arrays):
             self._join(told[1], [argument for argument in given if argument.array == told[1]])
 
     def _join(self, array, given):
