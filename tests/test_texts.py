@@ -9,6 +9,7 @@ from forkcells.errors import InvalidClaim, InvalidFrame, InvalidFunction, Invali
 from forkcells.logic.claims import is_claim
 from forkcells.text.texts import (read_claim, read_function, read_functions, read_rows, read_situation, write_claim,
                                   write_function, write_functions, write_rows, write_situation)
+from forkcells.text.writer import claim_text
 from forkcells.world.situations import Situation
 from claim_makers import claimed_program
 from code_samples import BOTH, COPY, FILL, HALVES, ONES, PAIR, SET, TWO
@@ -269,7 +270,90 @@ class Wrong(unittest.TestCase):
                 self.assertIsInstance(raised(call, (sign * 100000)[:100000]), ParseError)
 
 
+JUNK = (True, None, "", "A", "toolonger", "pos", "in", 10 ** 60, -1, (), ("i",), ("i", 0), ("i", True), ("i", 0, 0), ("a", "i", 0, 0), [], {},
+        ("or", ()), ("in", "k", ("", 0), ("", 1)), ("all", ("k",), ("or", ()), ("or", ())), ("move", "i", ("", 0)), ("f", (), (), ()))
+
+
+def near(value):
+    """All values that differ from a nested tuple in one place."""
+    if not isinstance(value, tuple):
+        return
+    for k in range(len(value)):
+        yield value[:k] + value[k + 1:]
+        yield value[:k] + value[k:k + 1] + value[k:]
+        for junk in JUNK:
+            yield value[:k] + (junk,) + value[k + 1:]
+        for other in near(value[k]):
+            yield value[:k] + (other,) + value[k + 1:]
+    for junk in JUNK:
+        yield value + (junk,)
+
+
+def alike(one, other):
+    """Whether two values are equal, with True apart from 1."""
+    if isinstance(one, tuple) and isinstance(other, tuple) and len(one) == len(other):
+        return all([alike(one[k], other[k]) for k in range(len(one))])
+    return type(one) is type(other) and not isinstance(one, tuple) and one == other
+
+
 class Writing(unittest.TestCase):
+    def test_only_what_can_be_read_back(self):
+        """What differs from a form in one place is rejected, or has the form itself and is read back."""
+        for texts, read, write, error in ((CLAIMS, read_claim, write_claim, InvalidClaim), (ROWS, read_rows, write_rows, InvalidFunction)):
+            good = bad = 0
+            for text in texts:
+                for value in near(read(text)):
+                    found = raised(write, value)
+                    if found is None:
+                        self.assertTrue(alike(read(write(value)), value), value)
+                        good += 1
+                    else:
+                        self.assertIsInstance(found, error, value)
+                        bad += 1
+            self.assertGreater(min(good, bad), 500)
+
+    def test_depths(self):
+        """Each way deeper counts, in what is written and in what is read."""
+        ways = (lambda claim: ("not", claim), lambda claim: ("and", (claim,)), lambda claim: ("or", (("or", ()), claim)),
+                lambda claim: ("and", (claim, ("or", ()))))
+        guards = (lambda claim: ("all", ("k",), claim, ("or", ())), lambda claim: ("all", ("k",), ("or", ()), claim))
+        for inner in (("or", ()), ("pos", "<", ("i", 0), ("j", 0)), ("val", "<", ("x", 0), ("y", 0))):
+            for way in ways:
+                for guard in ((lambda claim: claim,) + guards + tuple([lambda claim, one=one: ("or", (one(claim),)) for one in guards])):
+                    for many in range(8, 13):
+                        claim = inner
+                        for _ in range(many):
+                            claim = way(claim)
+                        claim = guard(claim)
+                        deep = self.depth(claim)
+                        self.assertEqual(raised(write_claim, claim) is None, deep <= 12)
+                        text = claim_text(claim)
+                        expected = Grammar(text)
+                        index = expected.index(expected.top)
+                        self.assertEqual(wrong(read_claim, text), index)
+                        self.assertEqual(index is None, deep <= 12)
+
+    def depth(self, claim):
+        if claim[0] == "not":
+            return 1 + self.depth(claim[1])
+        if claim[0] in ("and", "or"):
+            return 1 + max([0] + [self.depth(part) for part in claim[1]])
+        return 1 if claim[0] in ("pos", "val") else 1 + max(self.depth(claim[2]), self.depth(claim[3]))
+
+    def test_branches_that_are_deep(self):
+        for words in (("while or() { ", " }"), ("if or() { ", " } else { }"), ("if or() { } else { ", " }")):
+            for many in (4, 5):
+                text = words[0] * many + "x = 1" + words[1] * many
+                grammar = Grammar(text)
+                self.assertEqual(wrong(read_rows, text), grammar.index(grammar.rows))
+                self.assertEqual(wrong(read_rows, text) is None, many == 4)
+
+    def test_a_minus_ahead_of_a_number(self):
+        for head, index in (("f(", 3), ("f(- | ", 7), ("f(- | - | ", 11), ("f(- | - | -) with (", 20), ("f(- | - | -) with (- | ", 24)):
+            self.assertEqual(wrong(read_functions, head + "-1"), index)
+        self.assertEqual(wrong(read_rows, "fork f(-1"), 8)
+        self.assertIsNone(wrong(read_rows, "fork f(- | -1 | -1)"))
+
     def test_claims_that_are_none(self):
         for value in odd_values() + [
                 ("pos", "<=", ("i", 0), ("j", LONGER)), ("pos", "<=", ("i", 0), ("toolonger", 0)), ("pos", "=", ("i", 0), ("j", 0)),

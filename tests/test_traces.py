@@ -191,6 +191,11 @@ class Ways(unittest.TestCase):
         for value in [good[:1], good[::-1], good + (2,), good + (0,), good + (3,), (-3,) + good, list(good), (True, 2),
                       (1, 2, None), ((1, 2),), ()] + odd_values():
             self.assertIs(is_exchange_way(*found, one, other, value), False, value)
+        # An exchange that is none does not become one by being taken back.
+        self.assertFalse(is_exchange_way(*found, one, one, (0, 0)))
+        self.assertFalse(is_exchange_way(*found, other, other, (1, 1)))
+        self.assertFalse(is_exchange_way(ONECELL, "two", NOUGHTS, FIRST, FIRST, (1, 1)))
+        self.assertTrue(is_exchange_way(TWOCELLS, "two", NOUGHTS, FIRST, FIRST, (1, 1)))
         self.assertEqual(exchange_way(*found, one, one), ())
         self.assertTrue(is_exchange_way(*found, one, one, ()))
         self.assertIs(is_exchange_way(*found, (), (), ()), True)

@@ -125,7 +125,6 @@ def forms(program, called, situation):
 
 def require_short(program, called, situation, told):
     """An error, if one of these is no schedule, or has too many steps."""
-    require_beginning(program, called, situation)
     for schedule in told:
         run_along(program, called, situation, schedule)
     for schedule in told:

@@ -3,7 +3,7 @@
 from forkcells.base.integers import is_index
 from forkcells.code.functions import Function
 from forkcells.code.rights import outside_right, within_claim
-from forkcells.decide.follows import breaking, follows, paper, require_small
+from forkcells.decide.follows import breaking, follows, paper
 from forkcells.errors import InvalidFunction, InvalidOperation
 from forkcells.logic.putting import carried_claim, first_own, put_position
 from forkcells.solve.questions import Question
@@ -130,7 +130,6 @@ def shared_lengths(function):
 def first_falling(asked):
     """The index of the first of these questions that does not follow, or None."""
     for index in range(len(asked)):
-        require_small(asked[index][1])
         if not follows(asked[index][1]):
             return index
     return None
