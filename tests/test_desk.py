@@ -373,6 +373,9 @@ class Values(unittest.TestCase):
         other.waive(("kept", "fill"))
         other.demand(("kept", "fill"))
         self.assertFalse(desk == other)
+        self.assertFalse(desk_of(FILL) == desk_of(IDLE))
+        self.assertFalse(desk_of(FILL) == desk_of(BAD))
+        self.assertTrue(desk_of(FILL) == desk_of(FILL))
         for value in odd_values() + [TWO, desk.names]:
             self.assertFalse(desk == value)
             self.assertTrue(desk != value)

@@ -405,6 +405,13 @@ class Errors(unittest.TestCase):
         idle = Program((Function("f", arrays=(("look", "a", "n", ("", 0), ("n", 0)), ("look", "b", "m", ("", 0), ("m", 0)))),))
         self.assertEqual(raised(narrowed, idle, "f", {"a": ((low, far), (low,))}).bound, 1000)
         self.assertEqual(raised(narrowed, idle, "f", {"a": ((low,), (far, low))}).bound, 1000)
+        # That none fits for one array comes ahead of what compares those of another one.
+        both = Program((Function("f", arrays=(("look", "a", "n", ("", 0), ("n", 0)), ("full", "b", "m", "o", ("", 0), ("m", 0))),
+                                 rows=(("write", "b", "", 0, ("", 0)),)),))
+        self.assertIsInstance(raised(narrowed, both, "f", {"a": ((low, far), (low,)), "b": ((("", 1),), (("m", 0),))}), InvalidOperation)
+        self.assertIsInstance(raised(narrowed, both, "f", {"a": ((low, far), (low,)), "b": ((low,), (("", 1),))}), TooMany)
+        # All pairs are compared, also equal ones.
+        self.assertEqual(raised(narrowed, idle, "f", {"a": ((far, far), (low,))}).bound, 1000)
         # One alone is compared with nothing.
         self.assertEqual(narrowed(idle, "f", {"a": ((far,), (far,))})["f"].right_of("a"), (far, far))
         used = Program((function("f", put(0, 1)).with_rows((put(0, 1),), ()),))

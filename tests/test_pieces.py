@@ -508,6 +508,11 @@ class Values(unittest.TestCase):
         self.assertNotEqual(made[0], made[1])
         self.assertNotEqual(made[1], made[2])
         self.assertNotEqual(made[0], pieces(Program((FILL,)), "fill")[0])
+        # The same answers from another beginning, and of another function.
+        self.assertNotEqual(made[0], pieces(TWO, "halves")[0])
+        twice = pieces(Program((function("f", ("while", YES, ()), ("while", YES, ())),)), "f")
+        self.assertEqual((twice[1].answers, twice[3].answers), ((False,), (False,)))
+        self.assertNotEqual(twice[1], twice[3])
         both = function("f", SKIP)
         self.assertNotEqual(*pieces(Program((both,)), "f"))
         for value in odd_values() + [str(made[0]), TWO]:
