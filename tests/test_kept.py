@@ -306,6 +306,11 @@ class Guarantee(unittest.TestCase):
                     self.assertEqual(run.stuck, ())
                 self.assertEqual((run.end, len(run)), (expected, len(least)))
         self.assertTrue(is_free(code, called, situation))
+        for told in code[called].arrays:
+            row, end = situation.rows[told[1]], expected.rows[told[1]]
+            low, high = [situation.position_at(term) for term in told[-2:]]
+            changed = [k for k in range(len(row)) if row[k] != end[k]]
+            self.assertTrue(told[0] == "full" and all([low <= k < high for k in changed]) or changed == [])
 
     def test_kept_programs(self):
         many = 0
